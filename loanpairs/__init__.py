@@ -1,0 +1,1 @@
+"""Loanpairs: references lent on, and no use that comes too late."""

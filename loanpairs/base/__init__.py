@@ -1,0 +1,1 @@
+"""Words, steps and functions."""
