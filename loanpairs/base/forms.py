@@ -1,6 +1,6 @@
 """The forms of steps and of heads: what stands in their places, and what kinds a step wants."""
 
-from loanpairs.base.words import KINDS, is_any_part, is_name
+from loanpairs.base.words import KINDS, LETTERS, are_different_names, is_any_part, is_name
 
 MAX_ARGUMENTS = 3
 # A "variable" and a "function" are names; a "target" and a "part" can be empty, too.
@@ -78,6 +78,99 @@ def with_names(step, names):
         for item, role in zip(step[1:], STEP_ROLES[step[0]])
     ]
     return (step[0], *items)
+
+
+def is_renaming(names, value):
+    """Whether the value is a dict from just these names to different names."""
+    if not isinstance(value, dict) or len(value) != len(names):
+        return False
+    return all([name in value for name in names]) and are_different_names(list(value.values()))
+
+
+def parts_of(step):
+    """The list of the parts in a step."""
+    if step[0] == "call":
+        return [argument[2] for argument in step[3] if argument[0] == "lend"]
+    return [item for item, role in zip(step[1:], STEP_ROLES[step[0]]) if role == "part"]
+
+
+def with_words(step, fields, functions):
+    """The step with other names of fields and functions, dicts from all of them."""
+    if step[0] == "call":
+        arguments = tuple([_with_fields(argument, ARGUMENT_ROLES, fields) for argument in step[3]])
+        return ("call", step[1], functions[step[2]], arguments)
+    return _with_fields(step, STEP_ROLES, fields)
+
+
+def _with_fields(told, roles, fields):
+    items = [fields.get(item, "") if role == "part" else item for item, role in zip(told[1:], roles[told[0]])]
+    return (told[0], *items)
+
+
+def suits_called(step, kinds, parameters, result):
+    """Whether a call suits the kinds of the variables, a dict, and what the called function has."""
+    if step[1] == "" or result == "":
+        suits = step[1] == result
+    else:
+        suits = kinds[step[1]] == result
+    if not suits or len(step[3]) != len(parameters):
+        return False
+    return all([
+        _suits_parameter(argument[0], kinds[argument[1]], wanted)
+        for argument, (_, wanted) in zip(step[3], parameters)
+    ])
+
+
+def _suits_parameter(word, kind, wanted):
+    if word == "move":
+        return kind == wanted
+    return wanted == "look" or (wanted == "full" and kind != "look")
+
+
+def names_beside(names, others):
+    """A dict from other names to new ones, which are not among the names."""
+    free = [letter for letter in LETTERS if letter not in names]
+    return {other: letter for other, letter in zip(others, free)}
+
+
+def lines_instead(lines, index, called, names):
+    """The lines in which those of the called function stand for the call in this line.
+
+    names is a dict from the variables of the called function to their new names.
+    """
+    step, nexts = lines[index]
+    begin = _beginning(step, called.parameters, names)
+    first_copied = len(lines) + len(begin)
+    first_drop = first_copied + len(called.lines)
+    ends = list(names.values())
+    told = [*lines[:index], (("skip",), (len(lines),)), *lines[index + 1:]]
+    told = told + [(new, (len(lines) + at + 1,)) for at, new in enumerate(begin)]
+    returned = 0
+    for copied, ways in called.lines:
+        if copied[0] != "return":
+            told.append((with_names(copied, names), tuple([way + first_copied for way in ways])))
+            continue
+        behind = nexts if ends == [] else (first_drop + returned * len(ends),)
+        told.append((_instead_of_return(step[1], copied[1], names), behind))
+        returned = returned + 1
+    for _ in range(returned):
+        told = told + [(("drop", name), (len(told) + at + 1,)) for at, name in enumerate(ends[:-1])]
+        told = told + [(("drop", name), nexts) for name in ends[-1:]]
+    return tuple(told)
+
+
+def _beginning(step, parameters, names):
+    """The steps that give the arguments of a call to new variables and touch those that are references."""
+    gives, touches = [], []
+    for argument, (name, kind) in zip(step[3], parameters):
+        gives.append((argument[0], names[name]) + argument[1:])
+        if kind != "own":
+            touches.append(("touch", names[name], "", kind))
+    return gives + touches
+
+
+def _instead_of_return(target, returned, names):
+    return ("skip",) if target == "" else ("move", target, names[returned])
 
 
 def suits_kinds(step, kinds, result):

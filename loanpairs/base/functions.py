@@ -1,6 +1,6 @@
 """Steps, lines and functions, and their texts."""
 
-from loanpairs.base.forms import are_variables, has_step_roles, is_result, read_head
+from loanpairs.base.forms import are_variables, has_step_roles, is_renaming, is_result, read_head
 from loanpairs.base.forms import suits_kinds, variables_of, with_names, write_head
 from loanpairs.base.words import are_different_names, is_index, is_name, is_number_text
 from loanpairs.errors import InvalidFunction, InvalidNumber, InvalidOperation, InvalidWord, ParseError, UnknownName
@@ -265,10 +265,8 @@ class Function:
 
     def renamed(self, names):
         """The function with other names of its variables; names is a dict from all of them."""
-        if not isinstance(names, dict) or len(names) != len(self._names):
-            raise InvalidOperation("there is one new name for each variable")
-        if not all([name in names for name in self._names]) or not are_different_names(list(names.values())):
-            raise InvalidOperation("the variables get different names")
+        if not is_renaming(self._names, names):
+            raise InvalidOperation("there is a new name for each variable, and they are different")
         parameters = tuple([(names[name], kind) for name, kind in self._parameters])
         variables = tuple([(names[name], kind) for name, kind in self._variables])
         lines = tuple([(with_names(step, names), nexts) for step, nexts in self._lines])

@@ -1,0 +1,1 @@
+"""What steps do: facts, walks, and places and ages."""

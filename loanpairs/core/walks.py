@@ -1,0 +1,299 @@
+"""Walks of functions, told by walk lines."""
+
+from loanpairs.base.programs import Program, function_of
+from loanpairs.base.words import is_index, is_integer
+from loanpairs.core.actions import facts_behind, go_through, outcomes_by, plan_of
+from loanpairs.core.facts import start_state
+from loanpairs.errors import InvalidNumber, InvalidOperation, InvalidProgram, InvalidWalk, TooMany
+
+MAX_PAIRS = 2000
+MAX_WAY = 2000
+
+
+class Guide:
+    """What the steps of a program do to the states that its walks come to, each worked out once."""
+
+    def __init__(self, program):
+        self.ground = program
+        self._plans = {}
+        self._wrong = {}
+        self._behind = {}
+
+    def _plan(self, name, index, outcome):
+        key = (name, index, outcome)
+        if key not in self._plans:
+            self._plans[key] = plan_of(self.ground, name, index, outcome)
+        return self._plans[key]
+
+    def wrong_at(self, name, index, state):
+        """The faults of a step."""
+        key = (name, index, state)
+        if key not in self._wrong:
+            self._wrong[key], _ = go_through(self._plan(name, index, None), list(state))
+        return self._wrong[key]
+
+    def behind(self, name, index, state, outcome):
+        """The state behind a step."""
+        key = (name, index, state, outcome)
+        if key not in self._behind:
+            self._behind[key] = facts_behind(self._plan(name, index, outcome), list(state))
+        return self._behind[key]
+
+
+class Course:
+    """How far a way has come: its states, faults, and what it can go on to."""
+
+    def __init__(self, start, whose):
+        self.whose = whose
+        self.passed = [start]
+        self.wrong = []
+        self.length = 0
+        self.total = 0
+        self.ending = None
+        self.following = (0,)
+        # Whether no called walk has a fault, in its own steps or further down.
+        self.is_calm = True
+
+
+def _twin(course):
+    twin = Course(course.passed[0], course.whose)
+    twin.passed, twin.wrong = list(course.passed), list(course.wrong)
+    twin.length, twin.total, twin.following = course.length, course.total, course.following
+    twin.ending, twin.is_calm = course.ending, course.is_calm
+    return twin
+
+
+def _go_on(guide, course, line, inner):
+    """Makes one more step, with the course of the called walk or None, and tells whether it is one."""
+    if not is_integer(line) or line not in course.following:
+        return False
+    whose, state = course.whose, course.passed[-1]
+    step, nexts = guide.ground[whose][line]
+    faults = guide.wrong_at(whose, line, state)
+    if inner is not None and (step[0] != "call" or inner.whose != step[2] or inner.ending is None):
+        return False
+    is_broken = step[0] == "call" and inner is None
+    if is_broken and faults == []:
+        return False
+    course.wrong.extend([(course.length, fault) for fault in faults])
+    course.length = course.length + 1
+    course.total = course.total + 1
+    if step[0] == "return":
+        outcomes = outcomes_by(guide.ground, whose, line, state)
+        course.ending = outcomes[0] if outcomes != [] else None
+    if inner is not None:
+        course.total = course.total + inner.total
+        course.is_calm = course.is_calm and inner.is_calm and inner.wrong == []
+    course.following = () if is_broken else nexts
+    if course.following != ():
+        outcome = None if inner is None else inner.ending
+        course.passed.append(guide.behind(whose, line, state, outcome))
+    return True
+
+
+def _courses(program, value):
+    """The list of the courses of walk lines, or None if the value is none."""
+    if not isinstance(value, tuple) or not 1 <= len(value) <= MAX_PAIRS:
+        return None
+    guide, courses = Guide(program), []
+    for pair in value:
+        if not isinstance(pair, tuple) or len(pair) != 2 or pair[0] not in program.names:
+            return None
+        course = _course(guide, pair[0], pair[1], courses)
+        if course is None:
+            return None
+        courses.append(course)
+    return courses
+
+
+def _course(guide, whose, way, courses):
+    """The course of this way, or None; the courses of the earlier pairs are given."""
+    if not isinstance(way, tuple) or len(way) > MAX_WAY:
+        return None
+    course = Course(start_state(guide.ground, whose), whose)
+    for step in way:
+        if not isinstance(step, tuple) or len(step) != 2:
+            return None
+        line, inner = step
+        if inner is not None and not is_index(inner, len(courses)):
+            return None
+        if not _go_on(guide, course, line, None if inner is None else courses[inner]):
+            return None
+    return course
+
+
+def is_walk(program, value):
+    """Whether the value is walk lines of the program."""
+    if not isinstance(program, Program):
+        raise InvalidProgram("this is no program")
+    return _courses(program, value) is not None
+
+
+def _with_indices(pair, indices):
+    """The pair with other indices of the called walks."""
+    name, way = pair
+    return (name, tuple([(line, None if inner is None else indices[inner]) for line, inner in way]))
+
+
+def _leading_to(lines, target):
+    """The lines that the pair with the index target needs, in their order."""
+    needed = [False] * target + [True]
+    for index in range(target, -1, -1):
+        if needed[index]:
+            for _, inner in lines[index][1]:
+                if inner is not None:
+                    needed[inner] = True
+    indices, kept = [], []
+    for index, is_needed in enumerate(needed):
+        indices.append(len(kept))
+        if is_needed:
+            kept.append(_with_indices(lines[index], indices))
+    return tuple(kept)
+
+
+def _without_twins(lines):
+    """The same lines, no two of them alike."""
+    indices, known = [], {}
+    for pair in lines:
+        told = _with_indices(pair, indices)
+        if told not in known:
+            known[told] = len(known)
+        indices.append(known[told])
+    return tuple(list(known))
+
+
+def _longer_lines(lines, index, called):
+    """Walk lines with one more step, whose called walk is told by other lines, if there are any.
+
+    No two lines are alike if this is so for both, and all are needed.
+    """
+    name, way = lines[-1]
+    if called == ():
+        return (*lines[:-1], (name, (*way, (index, None))))
+    many = len(lines) - 1
+    indices = list(range(many, many + len(called)))
+    moved = [_with_indices(pair, indices) for pair in called]
+    return _without_twins((*lines[:-1], *moved, (name, (*way, (index, indices[-1])))))
+
+
+def _tell_same(lines, others):
+    """Whether two tuples of walk lines tell the same walk."""
+    known = {}
+    ends = []
+    for told in (lines, others):
+        indices = []
+        for pair in told:
+            key = _with_indices(pair, indices)
+            if key not in known:
+                known[key] = len(known)
+            indices.append(known[key])
+        ends.append(indices[-1])
+    return ends[0] == ends[1]
+
+
+class Walk:
+    """A walk of a function; it never changes."""
+
+    def __init__(self, program, lines):
+        if not isinstance(program, Program):
+            raise InvalidProgram("this is no program")
+        courses = _courses(program, lines)
+        if courses is None:
+            raise InvalidWalk("these are no walk lines of the program")
+        self._program = program
+        self._lines = lines
+        self._course = courses[-1]
+        # What the last pair needs, each once: to this the walks that are longer add.
+        self._needed = _without_twins(_leading_to(lines, len(lines) - 1))
+
+    @classmethod
+    def begin(cls, program, name):
+        """The walk of this function that has not begun."""
+        function_of(program, name)
+        return cls(program, ((name, ()),))
+
+    @property
+    def program(self):
+        """Its program."""
+        return self._program
+
+    @property
+    def lines(self):
+        """Its walk lines."""
+        return self._lines
+
+    @property
+    def name(self):
+        """The name of its function."""
+        return self._lines[-1][0]
+
+    @property
+    def way(self):
+        """The pairs of a line and the index of a called walk of its own steps."""
+        return self._lines[-1][1]
+
+    @property
+    def states(self):
+        """The states ahead of its steps, and the one behind them, if there is one."""
+        return tuple(self._course.passed)
+
+    @property
+    def faults(self):
+        """The pairs of a position and a fault of its own steps."""
+        return tuple(self._course.wrong)
+
+    @property
+    def outcome(self):
+        """The outcome that it returns with, or None."""
+        return self._course.ending
+
+    @property
+    def is_run(self):
+        """Whether only its last step can have a fault, and no called walk has one."""
+        last = self._course.length - 1
+        return self._course.is_calm and all([position == last for position, _ in self._course.wrong])
+
+    @property
+    def steps(self):
+        """The number of its steps and of those of all walks that it calls."""
+        return self._course.total
+
+    @property
+    def nexts(self):
+        """The lines that can come next, ascending."""
+        return self._course.following
+
+    def inner(self, position):
+        """The walk that is called at this position."""
+        way = self._lines[-1][1]
+        if not is_index(position, len(way)) or way[position][1] is None:
+            raise InvalidNumber(position)
+        return Walk(self._program, _leading_to(self._lines, way[position][1]))
+
+    def longer(self, index, inner=None):
+        """The walk with one more step, of this line; inner is the walk that a call calls."""
+        if not is_integer(index) or index not in self._course.following:
+            raise InvalidNumber(index)
+        if inner is not None and (not isinstance(inner, Walk) or inner._program != self._program):
+            raise InvalidOperation("a called walk is a walk of the same program")
+        course = _twin(self._course)
+        if not _go_on(Guide(self._program), course, index, None if inner is None else inner._course):
+            raise InvalidOperation("the called walk does not suit this step")
+        lines = _longer_lines(self._needed, index, () if inner is None else inner._needed)
+        if course.length > MAX_WAY or len(lines) > MAX_PAIRS:
+            raise TooMany(MAX_WAY)
+        longer = Walk(self._program, ((lines[-1][0], ()),))
+        longer._lines = longer._needed = lines
+        longer._course = course
+        return longer
+
+    def __len__(self):
+        return len(self._lines[-1][1])
+
+    def __eq__(self, other):
+        if not isinstance(other, Walk) or self._program != other._program:
+            return False
+        return self._lines[-1][0] == other._lines[-1][0] and _tell_same(self._lines, other._lines)
+
+    def __str__(self):
+        return f"walk of {self.name}: {len(self.way)} steps, {len(self._course.wrong)} faults"
