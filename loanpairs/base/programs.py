@@ -179,10 +179,15 @@ def _changed(fields, functions):
         raise InvalidOperation("there is no such program") from None
 
 
-def function_of(program, name):
-    """The function of this name; whatever is wrong about the two is raised."""
+def check_program(program):
+    """Refuses what is no program."""
     if not isinstance(program, Program):
         raise InvalidProgram("this is no program")
+
+
+def function_of(program, name):
+    """The function of this name; whatever is wrong about the two is raised."""
+    check_program(program)
     return program[name]
 
 
@@ -193,8 +198,7 @@ def line_of(program, name, index):
 
 def renamed(program, *, fields, functions):
     """The program with other names of fields and functions, two dicts from all of them."""
-    if not isinstance(program, Program):
-        raise InvalidProgram("this is no program")
+    check_program(program)
     if not is_renaming(program.fields, fields) or not is_renaming(program.names, functions):
         raise InvalidOperation("there is a new name for each old one, and they are different")
     told = []

@@ -1,10 +1,10 @@
 """Walks of functions, told by walk lines."""
 
-from loanpairs.base.programs import Program, function_of
+from loanpairs.base.programs import check_program, function_of
 from loanpairs.base.words import is_index, is_integer
 from loanpairs.core.actions import facts_behind, go_through, outcomes_by, plan_of
 from loanpairs.core.facts import start_state
-from loanpairs.errors import InvalidNumber, InvalidOperation, InvalidProgram, InvalidWalk, TooMany
+from loanpairs.errors import InvalidNumber, InvalidOperation, InvalidWalk, TooMany
 
 MAX_PAIRS = 2000
 MAX_WAY = 2000
@@ -124,8 +124,7 @@ def _course(guide, whose, way, courses):
 
 def is_walk(program, value):
     """Whether the value is walk lines of the program."""
-    if not isinstance(program, Program):
-        raise InvalidProgram("this is no program")
+    check_program(program)
     return _courses(program, value) is not None
 
 
@@ -195,8 +194,7 @@ class Walk:
     """A walk of a function; it never changes."""
 
     def __init__(self, program, lines):
-        if not isinstance(program, Program):
-            raise InvalidProgram("this is no program")
+        check_program(program)
         courses = _courses(program, lines)
         if courses is None:
             raise InvalidWalk("these are no walk lines of the program")

@@ -1,0 +1,1 @@
+"""Tables, certificates and fewest steps: what is true of all walks of a program."""
