@@ -22,9 +22,8 @@ def random_head(rng, called):
 def random_step(rng, head, heads, fields, held):
     """A step that suits the kinds, and mostly needs held variables, or None if chance finds none."""
     kinds = dict(head[1] + head[3])
-    names = list(kinds)
     for _ in range(80):
-        step = guess_step(rng, names, heads, fields)
+        step = guess_step(rng, kinds, heads, fields)
         if not is_step(step) or not suits_kinds(step, kinds, head[2]):
             continue
         if step[0] == "call":
@@ -60,9 +59,9 @@ def held_behind(step, kinds, held):
     return held - {name for name in moved if kinds[name] != "look" and not (step[0] == "call" and name == step[1])}
 
 
-def guess_step(rng, names, heads, fields):
-    def name():
-        return rng.choice(names)
+def guess_step(rng, kinds, heads, fields):
+    def name(*wanted):
+        return rng.choice([name for name in kinds if kinds[name] in (wanted or KINDS)] or list(kinds))
 
     def part():
         return rng.choice(["", *fields])
@@ -81,8 +80,12 @@ def guess_step(rng, names, heads, fields):
         return (word, name(), part(), rng.choice(["full", "look"]))
     if word == "call":
         called = rng.choice(heads)
-        given = [("lend", name(), part()) if rng.random() < 0.7 else ("move", name()) for _ in called[1]]
-        return (word, "" if called[2] == "" else name(), called[0], tuple(given))
+        given = []
+        for _, kind in called[1]:
+            lends = {"full": ("full", "own"), "look": KINDS, "own": ()}[kind]
+            is_moved = kind == "own" or rng.random() < 0.3
+            given.append(("move", name(kind)) if is_moved else ("lend", name(*lends), part()))
+        return (word, "" if called[2] == "" else name(called[2]), called[0], tuple(given))
     return ("skip",)
 
 
@@ -174,3 +177,14 @@ def is_faulty(walk):
     """Whether the walk itself, or one that it calls, has a fault."""
     inner = [walk.inner(at) for at, (_, called) in enumerate(walk.way) if called is not None]
     return bool(walk.faults) or any(is_faulty(called) for called in inner)
+
+
+def returning_walks(rng, told):
+    """Walks by chance that return with an outcome and have no fault, some calling other ones."""
+    found = []
+    for _ in range(3):
+        for name in told.names:
+            walk = random_walk(rng, told, name, 12, 0, True, found)
+            if walk.outcome is not None and not is_faulty(walk):
+                found.append(walk)
+    return found
