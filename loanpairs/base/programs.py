@@ -117,7 +117,8 @@ class Program:
         found = [self[name].called]
         met = {found[0]: True}
         while found != []:
-            for called in self._by_name[found.pop()].calls:
+            calls = self._by_name[found.pop()].calls
+            for called in calls:
                 if called not in met:
                     met[called] = True
                     found.append(called)

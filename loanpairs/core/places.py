@@ -281,13 +281,13 @@ class Places:
 
     def place(self, name):
         """The root and the path of a held variable."""
-        return self._told(name)[0]
+        return self._seen_of(name)[0]
 
     def age(self, name):
         """The age of a held variable."""
-        return self._told(name)[1]
+        return self._seen_of(name)[1]
 
-    def _told(self, name):
+    def _seen_of(self, name):
         if name not in list(self._held):
             raise UnknownName(name)
         return self._held[name]

@@ -62,8 +62,9 @@ class Flow:
             is_first = (name, index) not in self._facts
             known = self._facts.setdefault((name, index), {})
             fresh = [fact for fact in facts if fact not in known]
+            for fact in fresh:
+                known[fact] = True
             if fresh != [] or is_first:
-                known.update({fact: True for fact in fresh})
                 self._tasks.append((name, index, fresh))
 
     def _go_on(self, name, index, facts):
@@ -210,23 +211,28 @@ class Search:
         ways = {goal: self._way_to(goal)}
         if is_step_added:
             ways[goal].append((goal[1], None))
-        wanted = [goal]
+        wanted = self._callees(goal[0], ways[goal])
         while wanted != []:
-            whose = wanted.pop()
-            for line, outcome in ways[whose]:
-                called = self._called(whose[0], line, outcome)
-                if called is not None and called not in ways:
-                    ways[called] = self._way_to(called)
-                    wanted.append(called)
+            called = wanted.pop()
+            if called not in ways:
+                ways[called] = self._way_to(called)
+                wanted.extend(self._callees(called[0], ways[called]))
         # A called walk has fewer steps than the one that calls it, and so its pair comes ahead.
         inner = [(self.steps_to(called), number, called) for number, called in enumerate(ways) if called != goal]
         ordered = [called for _, _, called in sorted(inner)] + [goal]
         places = {called: number for number, called in enumerate(ordered)}
         return tuple([(whose[0], self._told_way(whose[0], ways[whose], places)) for whose in ordered])
 
-    def _called(self, name, line, outcome):
-        """The goal that the walk called in a line returns with, or None."""
-        return None if outcome is None else (self._ground[name][line][0][2], outcome)
+    def _callee(self, name, line, outcome):
+        """The goal of the walk that is called in a line and returns with an outcome."""
+        step, _ = self._ground[name][line]
+        return (step[2], outcome)
+
+    def _callees(self, name, way):
+        """The list of the goals of the walks that are called on a way of a function."""
+        return [self._callee(name, line, outcome) for line, outcome in way if outcome is not None]
 
     def _told_way(self, name, way, places):
-        return tuple([(line, places.get(self._called(name, line, outcome))) for line, outcome in way])
+        return tuple([
+            (line, None if outcome is None else places[self._callee(name, line, outcome)]) for line, outcome in way
+        ])

@@ -62,14 +62,14 @@ class Fewest:
         self._check_fact(name, index, fact)
         if self._search.steps_to((name, index, None)) is None:
             raise NotReached(index)
-        return self._walk((name, index, fact))
+        return self._lines_to((name, index, fact))
 
     def walk_out(self, name, outcome):
         """The walk lines of a walk with the fewest steps to an outcome."""
         self._check_outcome(name, outcome)
-        return self._walk((name, outcome))
+        return self._lines_to((name, outcome))
 
-    def _walk(self, goal):
+    def _lines_to(self, goal):
         if self._search.steps_to(goal) is None:
             raise InvalidOperation("there is no such walk")
         return self._search.lines_to(goal, False)
