@@ -91,6 +91,19 @@ class Steps(unittest.TestCase):
         self.check(more, 7, "a 0 0, r 0.g 3, s 0.g.f 4, x 0.g.f 5, y 0 2", ended=("s", "y"))
         self.check(more, 8, "a 0 0, r 0.g 3, s 0.g.f 4, x 0.g.f 5, y 0 2", ended=("s", "x", "y"))
 
+    def test_looks_that_were_moved(self):
+        lines = ("def t(a own): r full, x look, y look, z look", "lend x = a.f", "lend z = a.f", "lend r = a.g",
+                 "move y = x", "touch a.f full", "return")
+        self.check(lines, 4, "a 0 0, r 0.g 3, x 0.f 1, y 0.f 4, z 0.f 2")
+        self.check(lines, 5, "a 0 0, r 0.g 3, x 0.f 1, y 0.f 4, z 0.f 2", ended=("x", "y", "z"))
+
+    def test_copies_look_and_what_is_taken_is_used_fully(self):
+        for word, ended in (("copy", ("r",)), ("take", ("r", "x"))):
+            lines = ("def t(a own): b own, r full, x look", "lend x = a.f", "lend r = a.g", f"{word} b = a.f",
+                     f"{word} b = a.g", "return")
+            self.check(lines, 3, "a 0 0, b 1 0, r 0.g 2, x 0.f 1", ended=tuple(ended[1:]))
+            self.check(lines, 4, "a 0 0, b 2 0, r 0.g 2, x 0.f 1", ended=ended)
+
     def test_places_that_begin_one_another(self):
         lines = ("def t(a own): r full, s full, x look", "lend r = a.f", "lend s = r.g", "touch a.g full",
                  "touch a.f look", "return")
@@ -132,6 +145,8 @@ class Faults(unittest.TestCase):
     def test_first_fault(self):
         head = "def t(a own, p full): b own, c own, r full"
         self.check((head, "put b = c", "return"), 1, ("empty", "c"), "a 0 0, p 1 1", text="1 steps, 2 roots, fault empty c")
+        self.check(("def t(a own): r full", "lend r = a.f", "put r.g = a", "return"), 2, ("ended", "r"),
+                   "a 0 0, r 0.f 1")
         self.check((head, "take b = c", "return"), 1, ("empty", "c"), "a 0 0, p 1 1")
         self.check((head, "call g(lend b, lend a, move c)", "return", "def g(x full, y full, z own)", "return"), 1,
                    ("empty", "b"), "a 0 0, p 1 1")

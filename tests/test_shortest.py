@@ -314,6 +314,27 @@ class Papers(unittest.TestCase):
     def judge(self, told, value, wanted):
         check_judge(self, lambda value: is_length_paper(told, value), value, wanted)
 
+    def test_negative_numbers(self):
+        paper = Fewest(KEEP).paper()
+        for index, key in ((None, ("return",)), (4, ("held", "a")), (4, None)):
+            self.judge(KEEP, lowered(paper, "keep", index, key, 0), key is not None)
+            self.judge(KEEP, lowered(paper, "keep", index, key, -1), False)
+
+    def test_other_keys(self):
+        for told in (KEEP, LOOPS):
+            paper = Fewest(told).paper()
+            for name, index, key, _ in all_keys(paper):
+                points, outcomes = paper[name]
+                numbers = outcomes if index is None else points[index]
+                for other in (("held", "z"), ("empty", "c"), 0, "held"):
+                    if other not in numbers:
+                        changed = {other if old == key else old: steps for old, steps in numbers.items()}
+                        row = (points, changed) if index is None else (
+                            (*points[:index], changed, *points[index + 1:]), outcomes)
+                        self.judge(told, {**paper, name: row}, False)
+            for other in ("z", 0, None):
+                self.judge(told, {other if name == "t" else name: paper[name] for name in paper}, told == KEEP)
+
     def test_what_is_at_most_one_more(self):
         """Lesser numbers ahead of a step make the greatest ones behind it wrong."""
         told = program("def t(p full)", "skip", "skip", "return")

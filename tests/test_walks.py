@@ -197,6 +197,10 @@ class Asked(unittest.TestCase):
         self.assertIs(Walk(told, lines[:2]).is_run, False)
         self.assertIs(Walk(told, (("s", ((0, None),)),)).is_run, True)
         self.assertIs(Walk(sane, lines).is_run, True)
+        told = program("def t()", "call s()", "call e()", "return", "def s(): a own", "touch a look", "return",
+                       "def e()", "return")
+        lines = (("s", ((0, None), (1, None))), ("e", ((0, None),)), ("t", ((0, 0), (1, 1), (2, None))))
+        self.assertEqual([Walk(told, lines).is_run, Walk(told, lines).faults], [False, ()])
         deep = program("def t()", "call s()", "return", "def s()", "call e()", "return",
                        "def e(): a own", "drop a -> 1 2", "return", "touch a look", "return")
         for last, good in ((1, True), (2, False)):

@@ -84,7 +84,9 @@ class Machine:
         rows.extend(kept[::-1])
 
     def fault_of_need(self, name):
-        """What is wrong about needing a variable of the running function, or None."""
+        """What is wrong about needing a variable of the running function, or nothing; None if nothing is."""
+        if name == "":
+            return None
         cell = self.frames[-1].cells.get(name)
         if cell is None:
             return ("empty", name)
@@ -124,25 +126,22 @@ class Machine:
         return self.new_reference(cell.root, cell.path, kind)
 
 
-def _needs(step):
-    """The variables that a step which is no call needs, in order."""
+def _first_need(step):
+    """The variable that a step which is no call needs first, or an empty string."""
     if step[0] == "put":
-        return [step[3], step[1]]
+        return step[3]
     if step[0] in ("copy", "take", "lend", "move"):
-        return [step[2]]
-    return [step[1]] if step[0] in ("touch", "return") and step[1] != "" else []
+        return step[2]
+    return step[1] if step[0] in ("touch", "return") else ""
 
 
 def _do_step(machine, step):
     """Does a step that is no call and no return, up to its first fault, which is returned, or None."""
     frame, word = machine.frames[-1], step[0]
     function = machine.ground[frame.whose]
-    # Only a step `put` does something, to another variable, ahead of its last need.
-    needed = _needs(step)
-    for name in needed[:1]:
-        fault = machine.fault_of_need(name)
-        if fault is not None:
-            return fault
+    fault = machine.fault_of_need(_first_need(step))
+    if fault is not None:
+        return fault
     if word == "put":
         machine.empty(step[3], frame.whose)
         fault = machine.fault_of_need(step[1])
@@ -188,10 +187,9 @@ def _do_return(machine, step):
     """Ends the running function and gives its result to the one that waits for it, or returns the first fault."""
     frame = machine.frames[-1]
     function = machine.ground[frame.whose]
-    for name in _needs(step):
-        fault = machine.fault_of_need(name)
-        if fault is not None:
-            return fault
+    fault = machine.fault_of_need(_first_need(step))
+    if fault is not None:
+        return fault
     for name, cell in frame.cells.items():
         if function.kind(name) == "own":
             machine.use(cell, "", "full")
@@ -221,11 +219,10 @@ def _seen(machine):
 def _go_through(program, lines):
     """The first fault, or None, and what is seen behind a run, or ahead of its last step if this ends it."""
     machine = Machine(program, lines)
-    first = machine.frames[0]
-    seen, fault = _seen(machine), None
+    first, seen = machine.frames[0], None
     while first.position < len(machine.ways[first.at]) or len(machine.frames) > 1:
         frame = machine.frames[-1]
-        if len(machine.frames) == 1 and first.position == len(machine.ways[first.at]) - 1:
+        if len(machine.frames) == 1:
             seen = _seen(machine)
         line, inner = machine.ways[frame.at][frame.position]
         step, _ = program[frame.whose][line]

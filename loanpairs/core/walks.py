@@ -78,9 +78,8 @@ def _go_on(guide, course, line, inner):
     course.wrong.extend([(course.length, fault) for fault in faults])
     course.length = course.length + 1
     course.total = course.total + 1
-    if step[0] == "return":
-        outcomes = outcomes_by(guide.ground, whose, line, state)
-        course.ending = outcomes[0] if outcomes != [] else None
+    outcomes = outcomes_by(guide.ground, whose, line, state)
+    course.ending = outcomes[0] if outcomes != [] else None
     if inner is not None:
         course.total = course.total + inner.total
         course.is_calm = course.is_calm and inner.is_calm and inner.wrong == []
@@ -289,9 +288,11 @@ class Walk:
         return len(self._lines[-1][1])
 
     def __eq__(self, other):
-        if not isinstance(other, Walk) or self._program != other._program:
-            return False
-        return self._lines[-1][0] == other._lines[-1][0] and _tell_same(self._lines, other._lines)
+        return (
+            isinstance(other, Walk)
+            and self._program == other._program
+            and _tell_same(self._lines, other._lines)
+        )
 
     def __str__(self):
         return f"walk of {self.name}: {len(self.way)} steps, {len(self._course.wrong)} faults"
