@@ -81,6 +81,10 @@ class Judged(unittest.TestCase):
         self.check((("g", ((0, None),)), ("t", ((0, 0),))), False)
         self.check((("g", ()), ("t", ((0, 0),))), False)
         self.check((OWNED, ("t", ((0, 0),))), False)
+        # Not even a call with a fault is told with a walk that does not return with an outcome.
+        for inner in (("g", ()), ("g", ((0, None),)), OWNED, SHORT, ("t", ())):
+            self.check((FIRST, inner, ("t", ((0, 0), (1, 1)))), False)
+        self.check((FIRST, SECOND, ("t", ((0, 0), (1, 1)))), True)
         self.check((("s", ((0, None),)), FIRST, ("t", ((0, 1), (1, 1), (2, 0)))), False)
         self.check((("t", ((0, 0),)),), False)
 

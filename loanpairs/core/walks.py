@@ -2,7 +2,7 @@
 
 from loanpairs.base.programs import check_program, function_of
 from loanpairs.base.words import is_index, is_integer
-from loanpairs.core.actions import facts_behind, go_through, outcomes_by, plan_of
+from loanpairs.core.actions import go_through, outcomes_by, plan_of
 from loanpairs.core.facts import start_state
 from loanpairs.errors import InvalidNumber, InvalidOperation, InvalidWalk, TooMany
 
@@ -10,42 +10,61 @@ MAX_PAIRS = 2000
 MAX_WAY = 2000
 
 
+class Stop:
+    """A state that walks of a function come to, and the steps from there that were worked out."""
+
+    def __init__(self, whose, state):
+        self.whose = whose
+        self.facts = state
+        self.onward = {}
+
+
 class Guide:
     """What the steps of a program do to the states that its walks come to, each worked out once."""
 
     def __init__(self, program):
         self.ground = program
-        self._plans = {}
-        self._wrong = {}
-        self._behind = {}
+        self._stops = {}
 
-    def _plan(self, name, index, outcome):
-        key = (name, index, outcome)
-        if key not in self._plans:
-            self._plans[key] = plan_of(self.ground, name, index, outcome)
-        return self._plans[key]
+    def stop(self, whose, state):
+        """The stop of a function with this state."""
+        if (whose, state) not in self._stops:
+            self._stops[whose, state] = Stop(whose, state)
+        return self._stops[whose, state]
 
-    def wrong_at(self, name, index, state):
-        """The faults of a step."""
-        key = (name, index, state)
-        if key not in self._wrong:
-            self._wrong[key], _ = go_through(self._plan(name, index, None), list(state))
-        return self._wrong[key]
+    def does_call(self, whose, line, called):
+        """Whether the step of a line calls this function."""
+        step, _ = self.ground[whose][line]
+        return step[0] == "call" and step[2] == called
 
-    def behind(self, name, index, state, outcome):
-        """The state behind a step."""
-        key = (name, index, state, outcome)
-        if key not in self._behind:
-            self._behind[key] = facts_behind(self._plan(name, index, outcome), list(state))
-        return self._behind[key]
+    def step_from(self, stop, line, outcome):
+        """What a step from a stop does; for a call the outcome is that of the called walk, or None without one.
+
+        Whether it is no call without a called walk, its nexts, its faults, the outcome of a return or None, and
+        the stop behind, or None.
+        """
+        if (line, outcome) not in stop.onward:
+            stop.onward[line, outcome] = self._work_out(stop, line, outcome)
+        return stop.onward[line, outcome]
+
+    def _work_out(self, stop, line, outcome):
+        step, nexts = self.ground[stop.whose][line]
+        faults, facts = go_through(plan_of(self.ground, stop.whose, line, outcome), list(stop.facts))
+        outcomes = outcomes_by(self.ground, stop.whose, line, stop.facts)
+        ending = outcomes[0] if outcomes != [] else None
+        is_whole = step[0] != "call" or outcome is not None
+        if step[0] == "return" or not is_whole:
+            return (is_whole, (), faults, ending, None)
+        return (is_whole, nexts, faults, ending, self.stop(stop.whose, tuple(sorted(set(facts)))))
 
 
 class Course:
     """How far a way has come: its states, faults, and what it can go on to."""
 
-    def __init__(self, start, whose):
-        self.whose = whose
-        self.passed = [start]
+    def __init__(self, start):
+        self.whose = start.whose
+        self.here = start
+        self.passed = [start.facts]
         self.wrong = []
         self.length = 0
         self.total = 0
@@ -55,8 +74,8 @@ class Course:
         self.is_calm = True
 
 
-def _twin(course):
-    twin = Course(course.passed[0], course.whose)
+def _twin(guide, course):
+    twin = Course(guide.stop(course.whose, course.passed[-1]))
     twin.passed, twin.wrong = list(course.passed), list(course.wrong)
     twin.length, twin.total, twin.following = course.length, course.total, course.following
     twin.ending, twin.is_calm = course.ending, course.is_calm
@@ -67,26 +86,24 @@ def _go_on(guide, course, line, inner):
     """Makes one more step, with the course of the called walk or None, and tells whether it is one."""
     if not is_integer(line) or line not in course.following:
         return False
-    whose, state = course.whose, course.passed[-1]
-    step, nexts = guide.ground[whose][line]
-    faults = guide.wrong_at(whose, line, state)
-    if inner is not None and (step[0] != "call" or inner.whose != step[2] or inner.ending is None):
+    if inner is not None and (inner.ending is None or not guide.does_call(course.whose, line, inner.whose)):
         return False
-    is_broken = step[0] == "call" and inner is None
-    if is_broken and faults == []:
+    outcome = None if inner is None else inner.ending
+    is_whole, nexts, faults, ending, behind = guide.step_from(course.here, line, outcome)
+    if not is_whole and faults == []:
         return False
-    course.wrong.extend([(course.length, fault) for fault in faults])
-    course.length = course.length + 1
-    course.total = course.total + 1
-    outcomes = outcomes_by(guide.ground, whose, line, state)
-    course.ending = outcomes[0] if outcomes != [] else None
     if inner is not None:
         course.total = course.total + inner.total
         course.is_calm = course.is_calm and inner.is_calm and inner.wrong == []
-    course.following = () if is_broken else nexts
-    if course.following != ():
-        outcome = None if inner is None else inner.ending
-        course.passed.append(guide.behind(whose, line, state, outcome))
+    for fault in faults:
+        course.wrong.append((course.length, fault))
+    course.length = course.length + 1
+    course.total = course.total + 1
+    course.ending = ending
+    course.following = nexts
+    if behind is not None:
+        course.here = behind
+        course.passed.append(behind.facts)
     return True
 
 
@@ -109,7 +126,7 @@ def _course(guide, whose, way, courses):
     """The course of this way, or None; the courses of the earlier pairs are given."""
     if not isinstance(way, tuple) or len(way) > MAX_WAY:
         return None
-    course = Course(start_state(guide.ground, whose), whose)
+    course = Course(guide.stop(whose, start_state(guide.ground, whose)))
     for step in way:
         if not isinstance(step, tuple) or len(step) != 2:
             return None
@@ -273,8 +290,9 @@ class Walk:
             raise InvalidNumber(index)
         if inner is not None and (not isinstance(inner, Walk) or inner._program != self._program):
             raise InvalidOperation("a called walk is a walk of the same program")
-        course = _twin(self._course)
-        if not _go_on(Guide(self._program), course, index, None if inner is None else inner._course):
+        guide = Guide(self._program)
+        course = _twin(guide, self._course)
+        if not _go_on(guide, course, index, None if inner is None else inner._course):
             raise InvalidOperation("the called walk does not suit this step")
         lines = _longer_lines(self._needed, index, () if inner is None else inner._needed)
         if course.length > MAX_WAY or len(lines) > MAX_PAIRS:
