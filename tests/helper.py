@@ -21,7 +21,6 @@ KEEP = Program.from_lines(
     "fields next val", "def keep(a own): b full, c look",
     "lend b = a", "lend c = b", "touch a look", "touch c look", "return",
 )
-MANY_DIGITS = (10 ** 60, -(10 ** 60), 10 ** 99, 10 ** 100 - 1)
 
 
 def last():
@@ -87,9 +86,11 @@ def show(value):
 
 
 def check_judge(case, judge, value, wanted):
-    """The judge answers with the wanted truth value itself."""
+    """The judge answers with the wanted truth value itself, and the value stays as it is."""
+    before = show(value)
     answer = judge(value)
-    case.assertIs(answer, wanted, f"{show(value)[:200]}")
+    case.assertIs(answer, wanted, before[:200])
+    case.assertEqual(show(value), before)
 
 
 def check_errors(case, action, good, wrong, late=()):
@@ -130,4 +131,4 @@ def check_kept(case, error, value):
 def wrong_for(error, *more, but=()):
     """Pairs of odd values, and of more ones, and an error."""
     values = [value for value in odd_values() if not any(value is other for other in but)]
-    return [(value, error) for value in [*values, *more]]
+    return [(value, error) for value in [*values, 10 ** 60 - 1, *more]]

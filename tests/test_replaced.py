@@ -43,6 +43,15 @@ class Renamed(unittest.TestCase):
         self.assertNotEqual(made, EACH)
         self.assertEqual(rename(EACH, {"g": "g", "f": "f"}, {"f": "f", "main": "main"}), EACH)
 
+    def test_arguments_stay(self):
+        fields, functions = {"g": "f", "f": "g"}, {"main": "f", "f": "main"}
+        made = rename(EACH, fields, functions)
+        self.assertEqual([list(fields.items()), list(functions.items())],
+                         [[("g", "f"), ("f", "g")], [("main", "f"), ("f", "main")]])
+        fields.clear()
+        functions.clear()
+        self.assertEqual([made.fields, made.names], [("g", "f"), ("f", "main")])
+
     def test_new_order_of_functions(self):
         made = rename(LAST | CACHE, {"next": "next", "val": "val"}, {"get": "z", "last": "a"})
         self.assertEqual([made.names, str(made)], [("a", "z"), "program of 2 functions, 8 lines"])

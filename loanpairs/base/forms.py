@@ -97,13 +97,14 @@ def parts_of(step):
 def with_words(step, fields, functions):
     """The step with other names of fields and functions, dicts from all of them."""
     if step[0] == "call":
-        arguments = tuple([_with_fields(argument, ARGUMENT_ROLES, fields) for argument in step[3]])
+        arguments = tuple([_with_fields(argument, ARGUMENT_ROLES[argument[0]], fields) for argument in step[3]])
         return ("call", step[1], functions[step[2]], arguments)
-    return _with_fields(step, STEP_ROLES, fields)
+    return _with_fields(step, STEP_ROLES[step[0]], fields)
 
 
 def _with_fields(told, roles, fields):
-    items = [fields.get(item, "") if role == "part" else item for item, role in zip(told[1:], roles[told[0]])]
+    """A step or an argument, whose items have these roles, with other names of fields."""
+    items = [fields.get(item, "") if role == "part" else item for item, role in zip(told[1:], roles)]
     return (told[0], *items)
 
 

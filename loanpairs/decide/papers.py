@@ -38,7 +38,7 @@ def is_sound(program):
 
 def sound_functions(program):
     """The names of the functions that have no fault, and call none that has one, ascending."""
-    faulty = [name for name, _, _ in Table(program).faults]
+    faulty = [told[0] for told in Table(program).faults]
     return tuple([name for name in program.names if not any([other in faulty for other in program.needed(name)])])
 
 
