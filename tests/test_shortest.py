@@ -29,30 +29,31 @@ def tower(floors, calls):
 
 
 def chain():
-    """Functions with an outcome from each parameter, which needs twelve walks with the outcome ahead of it.
+    """Functions whose outcomes need one another, so that the last one needs more than 10 ** 65 steps.
 
-    Of 36 such outcomes in a row only the first is had at once. What else is passed to the called function
-    leads into a local tree, so that no cheaper outcome of it will do.
+    What is passed beside a reference leads into a local tree, so that only one outcome will do for each call
+    on its way. In b to k the outcome from p needs four rounds of calls with any outcome of the function ahead,
+    those from q and s need fifteen walks that have such an outcome, too: one from a field if the reference is
+    lent from a field at the beginning, and one from the whole otherwise. In a and l each of these chains goes
+    on where the one ahead of it ends: p, q.f, s.f, q, s.
     """
-    told, ahead = [], None
-    for called in "abcdefghijkl":
-        told += [f"def {called}(p look, q look, s look) look: y look, o own", "new o"]
-        for at, name in enumerate("pqs"):
-            told += branch(name, ahead, 1 + 12 * at)
-            ahead = (called, name)
-        told.append("return y")
+    told = [
+        "def a(p look, q look, s look) look: o own, u look", "new o -> 1 2 6", "return p",
+        "call u = k(lend o, lend o, lend o) -> 3 4", "lend q = q.f -> 5", "call u = l(lend o)", "return q",
+        "skip -> 7 8", "lend s = s.f", "call s = k(lend o, lend s, lend o)", "return s",
+        "def l(p look) look: o own", "new o", "call p = k(lend o, lend o, lend p)", "return p",
+    ]
+    for ahead, called in zip("abcdefghij", "bcdefghijk"):
+        told += [
+            f"def {called}(p look, q look, s look) look: o own, u look, v look, w look, x look",
+            "new o -> 1 2 3", "lend q = q.f -> 3", "lend s = s.f",
+            *[f"call q = {ahead}(lend o, lend q, lend o)"] * 15,
+            *[f"call s = {ahead}(lend o, lend o, lend s)"] * 14,
+            f"call s = {ahead}(lend o, lend o, lend s) -> 33 38",
+            "move x = w", "move w = v", "move v = u", "move u = p -> 3 37 39",
+            "move x = q -> 39", "move x = s", "return x",
+        ]
     return program(*told)
-
-
-def branch(name, ahead, first):
-    """Twelve lines that give y what a parameter leads to, by calls with the outcome ahead of this one."""
-    other = "" if first == 25 else f" {first + 12}"
-    if ahead is None:
-        return [f"lend y = {name} -> {first + 12} 37"] + ["skip"] * 11
-    given = ["lend o" if parameter != ahead[1] else "lend {}" for parameter in "pqs"]
-    call = f"call y = {ahead[0]}({', '.join(given)})"
-    begin = call.format(name) + (f" -> {first + 1}{other}" if other else "")
-    return [begin, *[call.format("y")] * 10, call.format("y") + ("" if first == 25 else " -> 37")]
 
 
 class Numbers(unittest.TestCase):
@@ -164,23 +165,23 @@ class Numbers(unittest.TestCase):
         self.assertEqual(fewest.to("l", 39), steps - 1)
         self.assertLess(time.perf_counter() - started, 20)
 
-    def test_outcomes_in_a_row(self):
+    def test_more_than_sixty_digits(self):
         started = time.perf_counter()
         told = chain()
         fewest = Fewest(told)
-        steps = fewest.out("l", ("from", "s", ""))
-        self.assertGreater(steps, 12 ** 35)
-        lines = fewest.walk_out("l", ("from", "s", ""))
+        steps = fewest.out("k", ("from", "s", ""))
+        self.assertGreater(steps, 10 ** 65)
+        lines = fewest.walk_out("k", ("from", "s", ""))
         walk = Walk(told, lines)
         self.assertEqual([walk.steps, walk.outcome], [steps, ("from", "s", "")])
         self.assertEqual(len(set(outline(told, lines))), len(lines) - 1)
-        self.assertEqual(len(lines), 36)
         paper = fewest.paper()
         self.assertIs(is_length_paper(told, paper), True)
-        paper["l"][1]["from", "s", ""] += 1
-        self.assertIs(is_length_paper(told, paper), False)
-        paper["l"][1]["from", "s", ""] = 10 ** 99
-        self.assertIs(is_length_paper(told, paper), False)
+        for changed in (steps + 1, 10 ** 99):
+            self.assertIs(is_length_paper(told, lowered(paper, "k", None, ("from", "s", ""), changed)), False)
+        point = fewest.to("k", 39, fact=("from", "x", "s", ""))
+        self.assertEqual([point + 1, Walk(told, fewest.walk_to("k", 39, fact=("from", "x", "s", ""))).steps],
+                         [steps, point])
         self.assertLess(time.perf_counter() - started, 60)
 
 
