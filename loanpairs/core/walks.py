@@ -185,10 +185,11 @@ def _longer_lines(lines, index, called):
     name, way = lines[-1]
     if called == ():
         return (*lines[:-1], (name, (*way, (index, None))))
-    many = len(lines) - 1
-    indices = list(range(many, many + len(called)))
-    moved = [_with_indices(pair, indices) for pair in called]
-    return _without_twins((*lines[:-1], *moved, (name, (*way, (index, indices[-1])))))
+    known = {pair: number for number, pair in enumerate(lines[:-1])}
+    indices = []
+    for pair in called:
+        indices.append(known.setdefault(_with_indices(pair, indices), len(known)))
+    return (*list(known), (name, (*way, (index, indices[-1]))))
 
 
 def _tell_same(lines, others):
