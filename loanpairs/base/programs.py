@@ -17,7 +17,7 @@ def _are_functions(value):
     return len({function.called for function in value}) == len(value)
 
 
-def _fits(function, fields, by_name):
+def _fits(function, fields, named):
     """Whether the parts in a function are of these fields, and its calls fit the functions in a dict."""
     kinds = {name: kind for name, kind in function.parameters + function.variables}
     for step, _ in function.lines:
@@ -25,7 +25,7 @@ def _fits(function, fields, by_name):
             return False
         if step[0] != "call":
             continue
-        called = by_name.get(step[2])
+        called = named.get(step[2])
         if called is None or not suits_called(step, kinds, called.parameters, called.result):
             return False
     return True
@@ -63,13 +63,13 @@ class Program:
             raise InvalidWord("fields are one to four different names")
         if not _are_functions(functions):
             raise InvalidProgram("there are one to twelve functions with different names")
-        by_name = {function.called: function for function in functions}
-        if not all([_fits(function, fields, by_name) for function in functions]):
+        named = by_name(functions)
+        if not all([_fits(function, fields, named) for function in functions]):
             raise InvalidProgram("parts are fields, and calls fit the called functions")
         self._fields = fields
-        self._names = tuple(sorted(list(by_name)))
-        self._functions = tuple([by_name[name] for name in self._names])
-        self._by_name = by_name
+        self._names = tuple(sorted(list(named)))
+        self._functions = tuple([named[name] for name in self._names])
+        self._by_name = named
 
     @classmethod
     def from_lines(cls, *lines):
@@ -178,6 +178,11 @@ def _changed(fields, functions):
         return Program(fields, tuple(functions))
     except InvalidProgram:
         raise InvalidOperation("there is no such program") from None
+
+
+def by_name(functions):
+    """A dict from the names of functions to them."""
+    return {function.called: function for function in functions}
 
 
 def check_program(program):

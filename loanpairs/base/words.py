@@ -42,6 +42,11 @@ def is_name(value):
     return value not in KEYWORDS and all([letter in LETTERS for letter in value])
 
 
+def is_ascending(values):
+    """Whether the items of a list or tuple ascend strictly."""
+    return all([value < other for value, other in zip(values, values[1:])])
+
+
 def are_different_names(values):
     """Whether all items of a list or tuple are names, none of them twice."""
     return all([is_name(value) for value in values]) and len(set(values)) == len(values)

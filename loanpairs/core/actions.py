@@ -14,13 +14,16 @@ The nameless variables are called "0", "1" and "2", as no variable is. Facts are
 NAMELESS = ("0", "1", "2")
 
 
-def plan_of(program, name, index, outcome):
-    """The plan of a step; for a call without an outcome the result is not filled if it is a reference."""
-    function = program[name]
+def plan_of(ground, name, index, outcome):
+    """The plan of a step; for a call without an outcome the result is not filled if it is a reference.
+
+    ground gives functions for names: it is a program or a dict.
+    """
+    function = ground[name]
     step, _ = function[index]
     kinds = {variable: function.kind(variable) for variable in function.names}
     if step[0] == "call":
-        parameters = program[step[2]].parameters
+        parameters = ground[step[2]].parameters
         for nameless, (_, kind) in zip(NAMELESS, parameters):
             kinds[nameless] = kind
         return (kinds, _call_groups(step, kinds, parameters, outcome))
@@ -180,9 +183,9 @@ def _without_loops(made, target):
     return plain
 
 
-def outcomes_by(program, name, index, facts):
+def outcomes_of_return(ground, name, index, facts):
     """The list of the outcomes that a return has by these facts; other steps have none."""
-    function = program[name]
+    function = ground[name]
     step, _ = function[index]
     if step[0] != "return":
         return []

@@ -1,7 +1,8 @@
 """Facts about the variables of a function, and what its steps do to them."""
 
 from loanpairs.base.programs import function_of, line_of
-from loanpairs.core.actions import facts_behind, go_through, outcomes_by, plan_of
+from loanpairs.base.words import is_ascending
+from loanpairs.core.actions import facts_behind, go_through, outcomes_of_return, plan_of
 from loanpairs.errors import InvalidOperation, InvalidState
 
 
@@ -48,7 +49,7 @@ def is_state(program, name, value):
     function = function_of(program, name)
     if not isinstance(value, tuple) or not all([_is_fact_of(program, function, fact) for fact in value]):
         return False
-    return all([fact < other for fact, other in zip(value, value[1:])])
+    return is_ascending(value)
 
 
 def is_outcome(program, name, value):
@@ -64,12 +65,16 @@ def is_outcome(program, name, value):
     return passed != "own" and _can_lead(passed, function.result)
 
 
-def start_state(program, name):
-    """The state at the beginning of this function."""
-    function = function_of(program, name)
+def start_of(function):
+    """The state at the beginning of a function."""
     facts = [("held", parameter) for parameter, _ in function.parameters]
     facts = facts + [("empty", variable) for variable, _ in function.variables]
     return tuple(sorted(facts + [("from", p, p, "") for p, kind in function.parameters if kind != "own"]))
+
+
+def start_state(program, name):
+    """The state at the beginning of this function."""
+    return start_of(function_of(program, name))
 
 
 def uses_at(program, name, index):
@@ -96,7 +101,7 @@ def faults_at(program, name, index, state):
 def outcomes_at(program, name, index, state):
     """The outcomes that the return in this line has in a state, ascending; other steps have none."""
     _check_state(program, name, index, state)
-    return tuple(sorted(outcomes_by(program, name, index, state)))
+    return tuple(sorted(outcomes_of_return(program, name, index, state)))
 
 
 def state_behind(program, name, index, state, outcome=None):

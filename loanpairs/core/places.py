@@ -295,7 +295,7 @@ class Places:
         return root == other_root and _do_meet(path, other_path)
 
     def __len__(self):
-        return len(range(self._many_roots))
+        return len(list(range(self._many_roots)))
 
     def __eq__(self, other):
         return isinstance(other, Places) and self._walk == other._walk

@@ -2,7 +2,7 @@
 
 from loanpairs.base.programs import check_program, function_of
 from loanpairs.base.words import is_index, is_integer
-from loanpairs.core.actions import go_through, outcomes_by, plan_of
+from loanpairs.core.actions import go_through, outcomes_of_return, plan_of
 from loanpairs.core.facts import start_state
 from loanpairs.errors import InvalidNumber, InvalidOperation, InvalidWalk, TooMany
 
@@ -50,7 +50,7 @@ class Guide:
     def _work_out(self, stop, line, outcome):
         step, nexts = self.ground[stop.whose][line]
         faults, facts = go_through(plan_of(self.ground, stop.whose, line, outcome), list(stop.facts))
-        outcomes = outcomes_by(self.ground, stop.whose, line, stop.facts)
+        outcomes = outcomes_of_return(self.ground, stop.whose, line, stop.facts)
         ending = outcomes[0] if outcomes != [] else None
         is_whole = step[0] != "call" or outcome is not None
         if step[0] == "return" or not is_whole:

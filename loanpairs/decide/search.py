@@ -2,22 +2,26 @@
 
 from heapq import heappop, heappush
 
-from loanpairs.core.actions import facts_behind, go_through, outcomes_by, plan_of
-from loanpairs.core.facts import start_state
+from loanpairs.base.programs import by_name
+from loanpairs.core.actions import facts_behind, go_through, outcomes_of_return, plan_of
+from loanpairs.core.facts import start_of, start_state
 
 
 class Plans:
-    """The plans of the steps of a program, each worked out once, and the lines that call each function."""
+    """The plans of the steps of functions, each worked out once, and the lines that call each function.
 
-    def __init__(self, program):
-        self.ground = program
+    The functions are a dict from the names by which they are called.
+    """
+
+    def __init__(self, functions):
+        self.ground = functions
         self._plans = {}
         self._needless = {}
-        self._calling = {name: [] for name in program.names}
-        for function in program.functions:
-            for index, (step, _) in enumerate(function.lines):
+        self._calling = {name: [] for name in functions}
+        for name in functions:
+            for index, (step, _) in enumerate(functions[name].lines):
                 if step[0] == "call":
-                    self._calling[step[2]].append((function.called, index))
+                    self._calling[step[2]].append((name, index))
 
     def calls_of(self, name):
         """The list of the pairs of a name and an index of the lines that call a function."""
@@ -41,17 +45,17 @@ class Plans:
 
 
 class Flow:
-    """The least table of a program, while it is worked out."""
+    """The least table of functions, while it is worked out; they are a dict as in Plans."""
 
-    def __init__(self, program):
-        self._plans = Plans(program)
-        self._ground = program
+    def __init__(self, functions):
+        self._plans = Plans(functions)
+        self._ground = functions
         # For each line that is reached its facts, and for each function its outcomes, as dicts of True.
         self._facts = {}
-        self._outcomes = {name: {} for name in program.names}
+        self._outcomes = {name: {} for name in functions}
         self._tasks = []
-        for name in program.names:
-            self._arrive(name, (0,), start_state(program, name))
+        for name in functions:
+            self._arrive(name, (0,), start_of(functions[name]))
         while self._tasks != []:
             name, index, fresh = self._tasks.pop()
             self._go_on(name, index, fresh)
@@ -71,7 +75,7 @@ class Flow:
         """Takes new facts of a line to the lines behind it."""
         step, nexts = self._ground[name][index]
         if step[0] == "return":
-            for outcome in outcomes_by(self._ground, name, index, facts):
+            for outcome in outcomes_of_return(self._ground, name, index, facts):
                 self._add_outcome(name, outcome)
             return
         outcomes = list(self._outcomes[step[2]]) if step[0] == "call" else [None]
@@ -92,7 +96,7 @@ class Flow:
     def least(self):
         """The least table."""
         told = {}
-        for name in self._ground.names:
+        for name in self._ground:
             points = [self._point(name, index) for index in range(len(self._ground[name]))]
             told[name] = (tuple(points), tuple(sorted(list(self._outcomes[name]))))
         return told
@@ -113,7 +117,7 @@ class Search:
     """
 
     def __init__(self, program):
-        self._plans = Plans(program)
+        self._plans = Plans(by_name(program.functions))
         self._ground = program
         self._settled = {}
         self._outcomes = {name: [] for name in program.names}
@@ -156,7 +160,7 @@ class Search:
             self._worst.setdefault(name, goal)
         step, _ = self._ground[name][index]
         if step[0] == "return":
-            for outcome in outcomes_by(self._ground, name, index, facts):
+            for outcome in outcomes_of_return(self._ground, name, index, facts):
                 self._offer(steps + 1, (name, outcome), goal, None)
         elif step[0] == "call":
             for outcome in list(self._outcomes[step[2]]):

@@ -1,7 +1,7 @@
 """The fewest steps to lines, facts, outcomes and faults."""
 
-from loanpairs.base.programs import check_program, function_of, line_of
-from loanpairs.core.actions import outcomes_by
+from loanpairs.base.programs import by_name, check_program, function_of, line_of
+from loanpairs.core.actions import outcomes_of_return
 from loanpairs.core.facts import is_fact, is_outcome, start_state
 from loanpairs.decide.search import Flow, Plans, Search
 from loanpairs.errors import InvalidOperation, InvalidState, NotReached
@@ -152,9 +152,9 @@ def _returns_at_most(program, value, goal):
     """Whether the numbers of the outcomes of a return are not greater than one fact, or None, allows."""
     name, index, fact = goal
     points, outcomes = value[name]
-    found = outcomes_by(program, name, index, [])
+    found = outcomes_of_return(program, name, index, [])
     if fact is not None:
-        found = [outcome for outcome in outcomes_by(program, name, index, [fact]) if outcome not in found]
+        found = [outcome for outcome in outcomes_of_return(program, name, index, [fact]) if outcome not in found]
     return all([outcomes[outcome] <= points[index][fact] + 1 for outcome in found])
 
 
@@ -172,12 +172,13 @@ def _is_line_kept(program, plans, value, name, index):
 def is_length_paper(program, value):
     """Whether the value is a length paper of the program."""
     check_program(program)
-    least = Flow(program).least()
+    functions = by_name(program.functions)
+    least = Flow(functions).least()
     if not isinstance(value, dict) or len(value) != len(least):
         return False
     if not all([name in value and _is_row(value[name], least[name][0], least[name][1]) for name in least]):
         return False
-    plans = Plans(program)
+    plans = Plans(functions)
     for name in program.names:
         points, _ = value[name]
         if not all([points[0][key] == 0 for key in (None, *start_state(program, name))]):

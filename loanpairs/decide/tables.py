@@ -1,7 +1,8 @@
 """Tables of facts, the least one among them."""
 
-from loanpairs.base.programs import check_program, line_of
-from loanpairs.core.actions import facts_behind, go_through, outcomes_by, plan_of
+from loanpairs.base.programs import by_name, check_program, line_of
+from loanpairs.base.words import is_ascending
+from loanpairs.core.actions import facts_behind, go_through, outcomes_of_return, plan_of
 from loanpairs.core.facts import is_fact, is_outcome, is_state, start_state
 from loanpairs.decide.search import Flow
 from loanpairs.errors import InvalidState, InvalidTable, UnknownName
@@ -13,7 +14,7 @@ class Table:
     def __init__(self, program):
         check_program(program)
         self._program = program
-        self._rows = Flow(program).least()
+        self._rows = Flow(by_name(program.functions)).least()
         self._faults = tuple(sorted(faults_in(program, self._rows)))
 
     @property
@@ -90,10 +91,17 @@ def faults_in(program, rows):
     """The list of the triples of a name, an index and a fault of all faults of a table."""
     found = []
     for name in program.names:
-        for index, state in enumerate(rows[name][0]):
-            if state is not None:
-                faults, _ = go_through(plan_of(program, name, index, None), list(state))
-                found.extend([(name, index, fault) for fault in faults])
+        found.extend([(name, index, fault) for index, fault in faults_of_points(program, name, rows[name][0])])
+    return found
+
+
+def faults_of_points(ground, name, points):
+    """The list of the pairs of an index and a fault of all states of a function; ground is as in plan_of."""
+    found = []
+    for index, state in enumerate(points):
+        if state is not None:
+            faults, _ = go_through(plan_of(ground, name, index, None), list(state))
+            found.extend([(index, fault) for fault in faults])
     return found
 
 
@@ -108,7 +116,7 @@ def _is_row(program, name, value):
         return False
     if not all([is_outcome(program, name, outcome) for outcome in outcomes]):
         return False
-    return all([outcome < other for outcome, other in zip(outcomes, outcomes[1:])])
+    return is_ascending(outcomes)
 
 
 def is_table(program, value):
@@ -133,7 +141,7 @@ def _is_line_closed(program, rows, name, index):
     step, nexts = program[name][index]
     facts = list(points[index])
     if step[0] == "return":
-        return all([outcome in outcomes for outcome in outcomes_by(program, name, index, facts)])
+        return all([outcome in outcomes for outcome in outcomes_of_return(program, name, index, facts)])
     for outcome in rows[step[2]][1] if step[0] == "call" else (None,):
         behind = facts_behind(plan_of(program, name, index, outcome), facts)
         if not all([_is_within(behind, points[following]) for following in nexts]):

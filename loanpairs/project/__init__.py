@@ -1,0 +1,1 @@
+"""Programs that are written bit by bit."""

@@ -1,0 +1,1 @@
+"""Texts of all kinds of values, and commands."""
