@@ -2,7 +2,7 @@
 
 from loanpairs.base.forms import are_variables, has_step_roles, is_renaming, is_result, read_head
 from loanpairs.base.forms import suits_kinds, variables_of, with_names, write_head
-from loanpairs.base.words import are_different_names, is_ascending, is_index, is_name, is_number_text
+from loanpairs.base.words import are_different_names, do_ascend, is_index, is_name, is_number_text
 from loanpairs.errors import InvalidFunction, InvalidNumber, InvalidOperation, InvalidWord, ParseError, UnknownName
 
 MAX_PARAMETERS = 3
@@ -128,7 +128,7 @@ def _read_nexts(text):
     if len(words) > MAX_NEXTS or not all([is_number_text(word) for word in words]):
         return None
     nexts = tuple([int(word) for word in words])
-    return nexts if is_ascending(nexts) else None
+    return nexts if do_ascend(nexts) else None
 
 
 def write_line(line, index):
@@ -157,7 +157,7 @@ def _is_line(value, many, kinds, result):
         return nexts == ()
     if not 1 <= len(nexts) <= MAX_NEXTS or not all([is_index(number, many) for number in nexts]):
         return False
-    return is_ascending(nexts)
+    return do_ascend(nexts)
 
 
 class Function:

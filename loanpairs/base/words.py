@@ -42,7 +42,7 @@ def is_name(value):
     return value not in KEYWORDS and all([letter in LETTERS for letter in value])
 
 
-def is_ascending(values):
+def do_ascend(values):
     """Whether the items of a list or tuple ascend strictly."""
     return all([value < other for value, other in zip(values, values[1:])])
 

@@ -1,7 +1,7 @@
 """Facts about the variables of a function, and what its steps do to them."""
 
 from loanpairs.base.programs import function_of, line_of
-from loanpairs.base.words import is_ascending
+from loanpairs.base.words import do_ascend
 from loanpairs.core.actions import facts_behind, go_through, outcomes_of_return, plan_of
 from loanpairs.errors import InvalidOperation, InvalidState
 
@@ -49,7 +49,7 @@ def is_state(program, name, value):
     function = function_of(program, name)
     if not isinstance(value, tuple) or not all([_is_fact_of(program, function, fact) for fact in value]):
         return False
-    return is_ascending(value)
+    return do_ascend(value)
 
 
 def is_outcome(program, name, value):

@@ -1,7 +1,7 @@
 """Tables of facts, the least one among them."""
 
 from loanpairs.base.programs import by_name, check_program, line_of
-from loanpairs.base.words import is_ascending
+from loanpairs.base.words import do_ascend
 from loanpairs.core.actions import facts_behind, go_through, outcomes_of_return, plan_of
 from loanpairs.core.facts import is_fact, is_outcome, is_state, start_state
 from loanpairs.decide.search import Flow
@@ -116,7 +116,7 @@ def _is_row(program, name, value):
         return False
     if not all([is_outcome(program, name, outcome) for outcome in outcomes]):
         return False
-    return is_ascending(outcomes)
+    return do_ascend(outcomes)
 
 
 def is_table(program, value):

@@ -7,7 +7,7 @@ from loanpairs.decide.shortest import Fewest
 from loanpairs.errors import InvalidContract, InvalidFunction, InvalidNumber, LoanError, NothingToUndo, ParseError
 from loanpairs.errors import Refused, TooMany, UnknownName
 from loanpairs.project.project import Project
-from loanpairs.text.texts import read_contract, write_certificate, write_contract, write_state
+from loanpairs.text.texts import read_contract, write_certificate, write_state
 from loanpairs.use.advice import can_be_look, marks
 from loanpairs.use.alarms import alarms
 from loanpairs.use.contracts import write_promise

@@ -4,7 +4,7 @@ What is read is guessed from a text first, passing over wrong and missing signs;
 has a text and this is the one that was read.
 """
 
-from loanpairs.base.words import is_any_part, is_ascending, is_index, is_integer, is_name, is_number_text
+from loanpairs.base.words import do_ascend, is_any_part, is_index, is_integer, is_name, is_number_text
 from loanpairs.errors import InvalidContract, InvalidState, InvalidTable, InvalidWalk, ParseError
 from loanpairs.use.contracts import Contract, write_promise
 
@@ -27,7 +27,7 @@ def _is_state(value):
     """Whether the value has the form of a state, or is None."""
     if value is None:
         return True
-    return isinstance(value, tuple) and all([_is_fact(fact) for fact in value]) and is_ascending(value)
+    return isinstance(value, tuple) and all([_is_fact(fact) for fact in value]) and do_ascend(value)
 
 
 def _write_place(name, part):
@@ -91,7 +91,7 @@ def _is_outcome(value):
 
 
 def _are_outcomes(value):
-    return isinstance(value, tuple) and all([_is_outcome(item) for item in value]) and is_ascending(value)
+    return isinstance(value, tuple) and all([_is_outcome(item) for item in value]) and do_ascend(value)
 
 
 def _write_outcomes(outcomes):
@@ -179,7 +179,7 @@ def _table_in(lines, first):
         else:
             rows[names[-1]][0].append(point[1])
     told = {name: (tuple(points), outcomes) for name, (points, outcomes) in rows.items()}
-    if not is_ascending(names) or not _is_table(told):
+    if not do_ascend(names) or not _is_table(told):
         raise ParseError(None)
     return told
 

@@ -2,7 +2,7 @@
 
 from loanpairs.base.functions import Function
 from loanpairs.base.programs import Program, check_program, function_of, line_of
-from loanpairs.base.words import is_ascending
+from loanpairs.base.words import do_ascend
 from loanpairs.decide.shortest import Fewest
 from loanpairs.decide.tables import Table
 from loanpairs.errors import InvalidFunction, InvalidOperation, InvalidProgram, NotReached
@@ -104,7 +104,7 @@ def _lowered_function(function, pairs):
 
 def is_ascending_of(pairs, value):
     """Whether the value is an ascending tuple of some of these pairs."""
-    return isinstance(value, tuple) and all([pair in pairs for pair in value]) and is_ascending(value)
+    return isinstance(value, tuple) and all([pair in pairs for pair in value]) and do_ascend(value)
 
 
 def is_lowering(program, value):

@@ -3,7 +3,7 @@
 from loanpairs.base.forms import is_result, parts_of, suits_called
 from loanpairs.base.functions import MAX_PARAMETERS, Function
 from loanpairs.base.programs import check_program, function_of
-from loanpairs.base.words import KINDS, is_any_part, is_fields, is_index, is_name
+from loanpairs.base.words import KINDS, is_fields, is_index, is_name
 from loanpairs.decide.search import Flow
 from loanpairs.decide.tables import Table, faults_of_points
 from loanpairs.errors import InvalidContract, InvalidFunction, InvalidOperation
@@ -134,7 +134,7 @@ class Contract:
         return all([outcome in other._closed for outcome in self._outcomes])
 
     def _check_like(self, other):
-        if not is_like(self, other):
+        if not are_like(self, other):
             raise InvalidOperation("this is no contract with the same fields, kinds and result")
 
     def function(self, called):
@@ -175,7 +175,7 @@ class Contract:
         return str(write_promise(self._kinds, self._result, self._closed))
 
 
-def is_like(one, other):
+def are_like(one, other):
     """Whether the other value is a contract with the same fields, kinds and result as the first one."""
     if not isinstance(other, Contract):
         return False
@@ -272,7 +272,7 @@ def _check_two(one, other):
     for contract in (one, other):
         if not isinstance(contract, Contract):
             raise InvalidContract("this is no contract")
-    if not is_like(one, other):
+    if not are_like(one, other):
         raise InvalidOperation("the contracts have not the same fields, kinds and result")
 
 
