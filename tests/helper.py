@@ -6,7 +6,12 @@ import itertools
 from loanpairs.base.functions import Function
 from loanpairs.base.programs import Program
 from loanpairs.core.walks import Walk
+from loanpairs.decide.shortest import Fewest
+from loanpairs.decide.tables import Table
 from loanpairs.errors import InvalidNumber, LoanError, UnknownName
+from loanpairs.project.project import Project
+from loanpairs.text.shell import Shell
+from loanpairs.use.contracts import Contract
 
 LAST_LINES = ("def last(p full) full", "skip -> 1 2", "lend p = p.next -> 1 2", "return p")
 LAST = Program.from_lines("fields next val", *LAST_LINES)
@@ -49,6 +54,8 @@ def odd_values():
     function = last()
     walk = Walk.begin(LAST, "last").longer(0)
     values = [LAST, walk, (LAST, walk), {"a": walk}]
+    contract = Contract(("left",), ("full",), "", (("return",),))
+    values += [contract, (contract,), {"left": contract}, Project("next"), Shell("next"), Table(LAST), Fewest(LAST)]
     values += [10 ** 60, -(10 ** 60), 10 ** 99, 10 ** 100 - 1, 1 - 10 ** 100, -1]
     values += [True, False, None, "A", "a b", "a\n", "\n", " ", "a" * 12000, "~" * 12000, "a.b", "0", "def"]
     values += [("",), (99,), (None,), ((), ()), (1, True), ("new",), ("new", "x", "y"), ("x", "new")]
@@ -80,8 +87,14 @@ def show(value):
         return f"{type(value).__name__} of " + ", ".join(show(item) for item in value) + ";"
     if isinstance(value, (Function, Program)):
         return "\n".join(value.text)
+    if isinstance(value, Contract):
+        return show((value.fields, value.kinds, value.result, value.outcomes))
+    if isinstance(value, Project):
+        return show((value.fields, value.functions, value.assumed, value.pins))
     if isinstance(value, Walk):
         return show(value.lines)
+    if isinstance(value, (Shell, Table, Fewest)):
+        return str(value)
     return repr(value)
 
 

@@ -5,6 +5,7 @@ from loanpairs.base.functions import Function, is_step
 from loanpairs.base.programs import Program
 from loanpairs.core.facts import faults_at, is_fact, is_outcome
 from loanpairs.core.walks import Walk
+from loanpairs.use.contracts import Contract
 
 VARIABLES = "abcdefgh"
 KINDS = ("full", "look", "own")
@@ -188,3 +189,36 @@ def returning_walks(rng, told):
             if walk.outcome is not None and not is_faulty(walk):
                 found.append(walk)
     return found
+
+
+def allowed(fields, kinds, result):
+    """All outcomes that the kinds of a contract allow."""
+    if result in ("", "own"):
+        return [("own",) if result else ("return",)]
+    lends = ("full",) if result == "full" else ("full", "look")
+    return [("from", at, part) for at, kind in enumerate(kinds) if kind in lends for part in ("", *fields)]
+
+
+def all_contracts(fields, kinds, result):
+    """The contracts with each set of outcomes."""
+    outcomes = allowed(fields, kinds, result)
+    for many in range(2 ** len(outcomes)):
+        yield Contract(fields, kinds, result, tuple(x for at, x in enumerate(outcomes) if many >> at & 1))
+
+
+def random_contract(rng, fields, kinds, result):
+    outcomes = allowed(fields, kinds, result)
+    return Contract(fields, kinds, result, tuple(rng.sample(outcomes, rng.randint(0, len(outcomes)))))
+
+
+def closed_by_words(contract):
+    """The closed form, outcome by outcome as the document says what is had."""
+    found = set(contract.outcomes)
+    for outcome in allowed(contract.fields, contract.kinds, contract.result):
+        if outcome[0] == "from":
+            parts = {part for _, at, part in contract.outcomes if at == outcome[1]}
+            if outcome[2] == "" and parts >= set(contract.fields):
+                found.add(outcome)
+            if len(contract.fields) == 1 and parts:
+                found.add(outcome)
+    return tuple(sorted(found))

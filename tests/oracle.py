@@ -71,3 +71,21 @@ class Oracle:
     def fewest_faults(self, name):
         found = [steps for (other, _, _), steps in self.faults.items() if other == name]
         return min(found) if found else None
+
+
+def by_outcomes(told, name, outcomes):
+    """The faults and outcomes of a function when its calls have any of these outcomes."""
+    tasks, seen, faults, found = [(0, start_state(told, name))], set(), set(), set()
+    while tasks:
+        index, state = tasks.pop()
+        if (index, state) in seen:
+            continue
+        seen.add((index, state))
+        faults |= {(index, fault) for fault in faults_at(told, name, index, state)}
+        found |= set(outcomes_at(told, name, index, state))
+        step, nexts = told[name][index]
+        if step[0] != "return":
+            for outcome in outcomes[step[2]] if step[0] == "call" else [None]:
+                behind = state_behind(told, name, index, state, outcome)
+                tasks += [(following, behind) for following in nexts]
+    return faults, found

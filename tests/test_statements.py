@@ -5,37 +5,19 @@ import unittest
 
 from loanpairs.base.functions import Function
 from loanpairs.base.programs import Program, inlined, renamed
-from loanpairs.core.facts import faults_at, outcomes_at, start_state, state_behind
 from loanpairs.core.walks import Walk
 from loanpairs.decide.papers import certificate, faulting_walk, is_sound
 from loanpairs.decide.tables import Table
 from loanpairs.errors import InvalidFunction, InvalidOperation, InvalidProgram, NotReached
 from tests.helper import CACHE, KEEP, LAST, LATE, check_raises, program
 from tests.makers import facts_of, outcomes_of, random_program
+from tests.oracle import by_outcomes
 
 
 def programs(many, functions=3, longest=10):
     for seed in range(many):
         rng = random.Random(seed)
         yield random_program(rng, rng.randint(1, functions), rng.randint(3, longest))
-
-
-def by_outcomes(told, name, outcomes):
-    """The faults and outcomes of a function when its calls have any of these outcomes."""
-    tasks, seen, faults, found = [(0, start_state(told, name))], set(), set(), set()
-    while tasks:
-        index, state = tasks.pop()
-        if (index, state) in seen:
-            continue
-        seen.add((index, state))
-        faults |= {(index, fault) for fault in faults_at(told, name, index, state)}
-        found |= set(outcomes_at(told, name, index, state))
-        step, nexts = told[name][index]
-        if step[0] != "return":
-            for outcome in outcomes[step[2]] if step[0] == "call" else [None]:
-                behind = state_behind(told, name, index, state, outcome)
-                tasks += [(following, behind) for following in nexts]
-    return faults, found
 
 
 def has(fields, outcomes, wanted):
