@@ -73,19 +73,26 @@ class Oracle:
         return min(found) if found else None
 
 
-def by_outcomes(told, name, outcomes):
-    """The faults and outcomes of a function when its calls have any of these outcomes."""
-    tasks, seen, faults, found = [(0, start_state(told, name))], set(), set(), set()
+def seen_by_outcomes(told, name, outcomes):
+    """The pairs of a line and a state of the walks of a function when its calls have any of these outcomes."""
+    tasks, seen = [(0, start_state(told, name))], set()
     while tasks:
         index, state = tasks.pop()
         if (index, state) in seen:
             continue
         seen.add((index, state))
-        faults |= {(index, fault) for fault in faults_at(told, name, index, state)}
-        found |= set(outcomes_at(told, name, index, state))
         step, nexts = told[name][index]
         if step[0] != "return":
             for outcome in outcomes[step[2]] if step[0] == "call" else [None]:
                 behind = state_behind(told, name, index, state, outcome)
                 tasks += [(following, behind) for following in nexts]
+    return seen
+
+
+def by_outcomes(told, name, outcomes):
+    """The faults and outcomes of a function when its calls have any of these outcomes."""
+    faults, found = set(), set()
+    for index, state in seen_by_outcomes(told, name, outcomes):
+        faults |= {(index, fault) for fault in faults_at(told, name, index, state)}
+        found |= set(outcomes_at(told, name, index, state))
     return faults, found
