@@ -46,6 +46,18 @@ class Layout(unittest.TestCase):
                     source = PACKAGE.parent / (node.module.replace(".", "/") + ".py")
                     self.assertTrue(source.is_file(), node.module)
 
+    def test_lengths(self):
+        """Where something has an index or is iterated over, no length is that of a range."""
+        found = 0
+        for path in files():
+            for node in ast.walk(ast.parse(path.read_text())):
+                if isinstance(node, ast.FunctionDef) and node.name == "__len__":
+                    found += 1
+                    told = ast.unparse(node.body[-1])
+                    self.assertTrue(told.startswith("return len("), path)
+                    self.assertFalse(told.startswith("return len(range("), path)
+        self.assertGreater(found, 5)
+
 
 if __name__ == "__main__":
     unittest.main()

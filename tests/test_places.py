@@ -37,6 +37,19 @@ class Steps(unittest.TestCase):
         if roots is not None:
             self.assertEqual(len(places), roots)
 
+    def test_number_of_roots(self):
+        """Each parameter and each new tree has a root, whether or not it is still held."""
+        for lines, many, roots in (
+            (("def t()", "skip", "return"), 0, 0), (("def t()", "skip", "return"), 2, 0),
+            (("def t(): a own", "new a", "return"), 0, 0), (("def t(): a own", "new a", "return"), 1, 1),
+            (("def t(p look)", "return"), 0, 1), (("def t(p look, q full, a own)", "return"), 1, 3),
+            (("def t(p look): a own", "new a", "drop a", "copy a = p", "return"), 4, 3),
+        ):
+            places = gone(*lines, many=many)
+            self.assertEqual(len(places), roots)
+            self.assertIsInstance(len(places), int)
+            self.assertIn(f" {roots} roots,", str(places))
+
     def test_constant(self):
         self.assertEqual(MAX_UNFOLDED, 20000)
 

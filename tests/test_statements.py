@@ -7,10 +7,13 @@ from loanpairs.base.functions import Function
 from loanpairs.base.programs import Program, inlined, renamed
 from loanpairs.core.walks import Walk
 from loanpairs.decide.papers import certificate, faulting_walk, is_sound
+from loanpairs.decide.shortest import Fewest
 from loanpairs.decide.tables import Table
 from loanpairs.errors import InvalidFunction, InvalidOperation, InvalidProgram, NotReached
+from loanpairs.use.alarms import alarms
+from loanpairs.use.contracts import Contract, parting
 from tests.helper import CACHE, KEEP, LAST, LATE, check_raises, program
-from tests.makers import facts_of, outcomes_of, random_program
+from tests.makers import facts_of, outcomes_of, random_function, random_program
 from tests.oracle import by_outcomes
 
 
@@ -217,6 +220,56 @@ class Replacing(unittest.TestCase):
         self.assertIs(is_sound(near), True)
 
 
+    def pairs(self, many):
+        """Sound functions g by chance and others with their kinds, all without calls."""
+        found = {}
+        for seed in range(many):
+            rng = random.Random(seed)
+            kinds = rng.choice([(("full", "look"), "look"), (("full", "own"), "full"), (("own",), "own"), (("look",), "")])
+            variables = (("x", kinds[1] or "own"), ("y", "own"))
+            head = ("g", tuple(zip("abc", kinds[0])), kinds[1], variables)
+            function = random_function(rng, head, [head], ("f", "g"), 8)
+            if function.calls == () and is_sound(Program(("f", "g"), (function,))):
+                found.setdefault(kinds, []).append(function)
+        for functions in found.values():
+            yield from ((one, other) for one in functions for other in functions)
+
+    def test_in_every_sound_program(self):
+        """A function that is within another one can replace it; one that is not makes a sound program unsound."""
+        counted = [0, 0]
+        callers = [told for told in programs(60, 2, 8) if is_sound(told)]
+        for one, other in random.Random(11).sample(list(self.pairs(150)), 250):
+            first, second = (Contract.of(Program(("f", "g"), (x,)), "g") for x in (one, other))
+            within = all(has(("f", "g"), second.outcomes, x) for x in first.outcomes)
+            self.assertIs(first.fits(second), within)
+            if within:
+                counted[0] += self.check_callers(callers, one, other)
+            else:
+                main = parting(first, second)
+                self.assertIs(is_sound(Program(("f", "g"), (main, other))), True)
+                self.assertIs(is_sound(Program(("f", "g"), (main, one))), False)
+                counted[1] += 1
+        self.assertGreater(min(counted), 20, counted)
+
+    def check_callers(self, callers, one, other):
+        """Each sound program with a function in the place of which the other one can stand."""
+        counted = 0
+        for told in callers:
+            for function in told.functions:
+                kinds = [tuple(kind for _, kind in x.parameters) for x in (function, other)]
+                if kinds[0] != kinds[1] or function.result != other.result:
+                    continue
+                before = told.with_function(with_name(other, function.called))
+                if is_sound(before):
+                    counted += 1
+                    self.assertIs(is_sound(told.with_function(with_name(one, function.called))), True)
+        return counted
+
+
+def with_name(function, called):
+    return Function(called, function.parameters, function.result, function.variables, function.lines)
+
+
 class Untrue(unittest.TestCase):
     """What is not true of all programs."""
 
@@ -238,6 +291,11 @@ class Untrue(unittest.TestCase):
         fields = {("from", "p", "f"), ("from", "p", "g")}
         self.assertTrue(all(has(("f", "g"), fields, outcome) for outcome in all_parts))
         self.assertTrue(all(has(("f", "g"), all_parts, outcome) for outcome in fields))
+        one = program("def f(p full) full", "skip -> 1 3 4", "lend p = p.f", "return p", "lend p = p.g -> 2", "return p")
+        other = program("def f(p full) full", "skip -> 1 3", "lend p = p.f", "return p", "lend p = p.g -> 2")
+        self.assertEqual([Table(told).outcomes_of("f") for told in (one, other)], [
+            tuple(sorted(all_parts)), tuple(sorted(fields))])
+        self.assertEqual(Contract.of(one, "f"), Contract.of(other, "f"))
 
     def test_a_function_that_is_never_called_needs_no_check(self):
         self.assertEqual([is_sound(KEEP), is_sound(KEEP | LATE)], [True, False])
@@ -251,7 +309,14 @@ class Untrue(unittest.TestCase):
             self.assertIs(is_sound(program(*lines, "def g(p look, q look) look", f"return {name}")), True)
 
     def test_usual_checks(self):
-        self.assertIs(is_sound(CACHE), True)
+        """A usual check refuses a sound program, too: in each of these a reference has ended, but is not used any more."""
+        for told in (CACHE, KEEP):
+            self.assertEqual([is_sound(told), alarms(told, told.names[0]) == ()], [True, False])
+
+    def test_a_shortest_run_with_a_fault_comes_to_no_line_twice(self):
+        told = program("def f(a own)", "touch a look", "drop a -> 0 2", "return")
+        self.assertEqual(Table(told).faults, (("f", 0, ("empty", "a")),))
+        self.assertEqual(Fewest(told).faulty_run(), (("f", ((0, None), (1, None), (0, None))),))
 
 
 class Helpers(unittest.TestCase):
