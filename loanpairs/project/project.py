@@ -298,8 +298,7 @@ class Project:
         )
 
     def __str__(self):
-        ground = self._ground
-        return f"project of {len(ground.bodies)} functions, {len(ground.promises)} assumed, {len(self._pins)} pins"
+        return f"project of {len(self)} functions, {len(self._ground.promises)} assumed, {len(self._pins)} pins"
 
 
 def _check_many(many, changes):
