@@ -146,6 +146,15 @@ class Made(unittest.TestCase):
             self.assertIs(one == value, False)
             self.assertIs(one != value, True)
 
+    def test_equal_functions_and_contracts(self):
+        one = full()
+        for change in (("put", CACHE["get"]), ("put", LAST["last"].with_line(0, ("skip",), 2)), ("remove", "last"),
+                       ("assume", "h", ANY_PART), ("assume", "g", contract(("full",), "full"))):
+            other = full()
+            self.assertEqual(one, other)
+            getattr(other, change[0])(*change[1:])
+            self.assertNotEqual(one, other)
+
     def test_equal_pins_in_the_same_order(self):
         one, other = full(), full()
         for project in (one, other):
@@ -193,6 +202,9 @@ class Changes(unittest.TestCase):
         self.assertEqual([list(project.assumed), list(project)], [["last"], []])
         self.assertEqual(project.put(CACHE["get"].renamed({"m": "p", "r": "q"})), (("get", "new"),))
         self.assertEqual(project.assume("get", ANY_PART), (("get", "contract"),))
+        project.assume("h", contract((), "", ("return",)))
+        self.assertEqual(project.put(text("def h()", "return")), (("h", "facts"),))
+        self.assertEqual(project.assume("h", contract((), "", ("return",))), (("h", "facts"),))
 
     def test_equal_contracts_with_other_outcomes(self):
         """An assumed contract with an equal one in its place: no news, but its own outcomes are told."""

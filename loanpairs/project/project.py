@@ -7,7 +7,7 @@ from loanpairs.decide.tables import Table
 from loanpairs.errors import InvalidContract, InvalidFunction, InvalidNumber, InvalidOperation, InvalidProgram
 from loanpairs.errors import InvalidWord, NothingToUndo, Refused, TooMany, UnknownName
 from loanpairs.use.advice import marks_in
-from loanpairs.use.contracts import Contract, contract_in
+from loanpairs.use.contracts import Contract, are_like, contract_in
 
 MAX_PINS = 10
 # How many arguments each change has.
@@ -75,20 +75,16 @@ def _is_pin(value):
     """Whether the value has the form of a pin."""
     if not isinstance(value, tuple) or value == () or not isinstance(value[0], str):
         return False
-    if len(value) != PIN_ITEMS.get(value[0], 0) or not is_name(value[1]):
-        return False
-    return value[0] != "within" or isinstance(value[2], Contract)
+    return len(value) == PIN_ITEMS.get(value[0], 0)
 
 
-def _suits(ground, fields, pin):
+def _suits(ground, pin):
     """Whether a pin is about a function, or for "within" any name, and suits it."""
     word, name = pin[:2]
     if word != "within":
         return name in ground.listed
     contract = ground.contract_of(name)
-    if contract is None or pin[2].fields != fields:
-        return False
-    return pin[2].kinds == contract.kinds and pin[2].result == contract.result
+    return contract is not None and are_like(contract, pin[2])
 
 
 def _holds(ground, pin):
@@ -181,7 +177,7 @@ class Project:
         return self._go_on(ground, self._pins)
 
     def _go_on(self, ground, pins):
-        if not all([_suits(ground, self._fields, pin) for pin in pins]):
+        if not all([_suits(ground, pin) for pin in pins]):
             raise InvalidOperation("a pin does not suit")
         for pin in pins:
             if not _holds(ground, pin):
@@ -198,7 +194,7 @@ class Project:
 
     def pin(self, pin):
         """Adds a pin."""
-        if not _is_pin(pin) or not _suits(self._ground, self._fields, pin) or pin in self._pins:
+        if not _is_pin(pin) or not _suits(self._ground, pin) or pin in self._pins:
             raise InvalidOperation("this is no new pin that suits the project")
         if len(self._pins) >= MAX_PINS:
             raise TooMany(MAX_PINS)
@@ -206,7 +202,7 @@ class Project:
 
     def unpin(self, pin):
         """Takes a pin away."""
-        if not _is_pin(pin) or pin not in self._pins:
+        if pin not in self._pins:
             raise InvalidOperation("this is no pin of the project")
         return self._go_on(self._ground, tuple([other for other in self._pins if other != pin]))
 

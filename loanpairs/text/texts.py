@@ -256,7 +256,7 @@ def write_certificate(certificate):
     if not isinstance(certificate, tuple) or len(certificate) != 2:
         raise InvalidTable("a certificate is a pair")
     word, told = certificate
-    if word == "table" and _is_table(told):
+    if word == "table":
         return f"table\n{write_table(told)}"
     if word == "run" and _is_walk(told):
         return f"run\n{write_walk(told)}"

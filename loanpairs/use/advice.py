@@ -1,7 +1,7 @@
 """What can be look in the place of full, where marks are needed, and programs without touches."""
 
 from loanpairs.base.functions import Function
-from loanpairs.base.programs import Program, check_program, function_of, line_of
+from loanpairs.base.programs import Program, check_program
 from loanpairs.base.words import do_ascend
 from loanpairs.decide.shortest import Fewest
 from loanpairs.decide.tables import Table
@@ -65,11 +65,10 @@ def _staying_full(program):
                 found.append((function.called, used))
             for one, other in _ties_of(program, function, step):
                 tied.setdefault(one, []).append(other)
-    can_stay = {pair: True for pair in _full_pairs(program)}
+    # Ties lead from owners to owners only, so that they need not be left out.
     while found != []:
         pair = found.pop()
-        # Owners and what is look already have nothing to do with this, nor do ties by them.
-        if pair in can_stay and pair not in staying:
+        if pair not in staying:
             staying[pair] = True
             found.extend(tied.get(pair, []))
     return staying
@@ -146,13 +145,11 @@ def marks_in(table, name):
 
 def marks(program, name):
     """The pairs of a line and an owner where a mark is needed, ascending."""
-    function_of(program, name)
     return marks_in(Table(program), name)
 
 
 def mark_walks(program, name, index, owner):
     """Walk lines with the fewest steps to a line where an owner needs a mark: with it empty, and with it held."""
-    line_of(program, name, index)
     fewest = Fewest(program)
     if fewest.to(name, index) is None:
         raise NotReached(index)

@@ -1,6 +1,6 @@
 """A usual check, which does not follow what loan a reference holds at what line."""
 
-from loanpairs.base.programs import check_program, function_of
+from loanpairs.base.programs import function_of
 from loanpairs.base.words import do_overlap
 from loanpairs.core.actions import plan_of
 from loanpairs.decide.tables import Table
@@ -207,13 +207,11 @@ def _alarms_in(table, name):
 
 def alarms(program, name):
     """The pairs of a line and a loan of all alarms of a function, ascending."""
-    function_of(program, name)
     return _alarms_in(Table(program), name)
 
 
 def each_alarm(program):
     """The triples of a name, a line and a loan of all alarms of all functions, ascending."""
-    check_program(program)
     table = Table(program)
     for name in program.names:
         for line, loan in _alarms_in(table, name):

@@ -2,7 +2,7 @@
 
 from loanpairs.base.forms import is_result, parts_of, suits_called
 from loanpairs.base.functions import MAX_PARAMETERS, Function
-from loanpairs.base.programs import check_program, function_of
+from loanpairs.base.programs import function_of
 from loanpairs.base.words import KINDS, is_fields, is_index, is_name
 from loanpairs.decide.search import Flow
 from loanpairs.decide.tables import Table, faults_of_points
@@ -46,7 +46,6 @@ def _closed_form(fields, outcomes):
         if all([field in parts for field in fields]):
             found.append(("from", index, ""))
         if len(fields) == 1 and parts != []:
-            found.append(("from", index, ""))
             found.append(("from", index, fields[0]))
     return tuple(sorted(set(found)))
 
@@ -205,7 +204,6 @@ def contract_in(table, name):
 
 def contracts_of(program):
     """A dict from the names of the functions to their contracts."""
-    check_program(program)
     table = Table(program)
     return {name: contract_in(table, name) for name in program.names}
 
@@ -318,11 +316,10 @@ def _telling_steps(outcome, other):
 def is_parting(one, other, value):
     """Whether the value is a function as parting makes them."""
     _check_two(one, other)
-    if not isinstance(value, Function) or value.called != "main" or value.calls != ("g",):
+    if not isinstance(value, Function) or value.called != "main":
         return False
-    if value.parameters != () or value.result != "":
-        return False
-    if not suits_contracts(value, one.fields, {"g": one}):
+    # There is no contract for other calls, so they suit none.
+    if value.parameters != () or value.result != "" or not suits_contracts(value, one.fields, {"g": one}):
         return False
     faults, _ = _judged_by(value, {"g": one})
     others, _ = _judged_by(value, {"g": other})
