@@ -169,20 +169,20 @@ class Forbidding(unittest.TestCase):
                        ("put", Function.from_lines("def h(p own)", "touch p full", "return"))):
             check_raises(self, InvalidOperation, getattr(project, change[0]), *change[1:])
             check_raises(self, InvalidOperation, project.trial, change)
-        # This one would not be sound either, but a pin that would not suit comes ahead of one that would not hold.
-        project.pin(("sound", "h"))
-        project.undo(many=2)
-        project.pin(("sound", "h"))
-        project.pin(("unmarked", "h"))
-        for head in ("def h(p look) full: x own", "def h(p full, q full) full: x own", "def h(p full) own: x own"):
-            function = Function.from_lines(head, "touch x look", "skip -> 1")
-            check_raises(self, InvalidOperation, project.put, function)
-        project.unpin(("sound", "h"))
         project.unpin(("unmarked", "h"))
         self.assertEqual(project.assume("h", ANY), (("h", "contract"),))
         check_raises(self, InvalidOperation, project.remove, "h")
         project.unpin(("within", "h", ANY))
         self.assertEqual(project.remove("h"), (("h", "gone"),))
+
+    def test_pins_that_would_not_suit_ahead_of_pins_that_would_not_hold(self):
+        project = made()
+        project.put(Function.from_lines("def h(p full) full", "return p"))
+        for pin in (("sound", "h"), ("within", "h", ANY | Contract(FIELDS, ("full",), "full", (("from", 0, ""),)))):
+            project.pin(pin)
+        for head, error in (("def h(p full) full: x own", Refused), ("def h(p look) full: x own", InvalidOperation),
+                            ("def h(p full, q full) full: x own", InvalidOperation), ("def h(p full) own: x own", InvalidOperation)):
+            check_raises(self, error, project.put, Function.from_lines(head, "touch x look", "skip -> 1"))
 
     def test_names_that_come_again(self):
         project = made()
