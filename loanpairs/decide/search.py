@@ -53,12 +53,16 @@ class Flow:
         # For each line that is reached its facts, and for each function its outcomes, as dicts of True.
         self._facts = {}
         self._outcomes = {name: {} for name in functions}
-        self._tasks = []
+        # For each line that is to be gone on from the facts that are new there.
+        self._fresh = {}
         for name in functions:
             self._arrive(name, (0,), start_of(functions[name]))
-        while self._tasks != []:
-            name, index, fresh = self._tasks.pop()
-            self._go_on(name, index, fresh)
+        # What comes to a line in one round is taken further at once in the next one.
+        while self._fresh != {}:
+            waiting = self._fresh
+            self._fresh = {}
+            for (name, index), facts in waiting.items():
+                self._go_on(name, index, facts)
 
     def _arrive(self, name, nexts, facts):
         """These facts are at these lines, too; what is new there is to be taken further."""
@@ -69,7 +73,7 @@ class Flow:
             for fact in fresh:
                 known[fact] = True
             if fresh != [] or is_first:
-                self._tasks.append((name, index, fresh))
+                self._fresh.setdefault((name, index), []).extend(fresh)
 
     def _go_on(self, name, index, facts):
         """Takes new facts of a line to the lines behind it."""
