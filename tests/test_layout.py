@@ -1,6 +1,7 @@
 """Rules of the language that are easy to break by chance: files, characters, sizes and imports."""
 
 import ast
+import builtins
 import pathlib
 import unittest
 
@@ -45,6 +46,29 @@ class Layout(unittest.TestCase):
                     self.assertEqual((node.module.split(".")[0], node.level), ("loanpairs", 0), path)
                     source = PACKAGE.parent / (node.module.replace(".", "/") + ".py")
                     self.assertTrue(source.is_file(), node.module)
+
+    def test_names_of_imports_and_classes(self):
+        """They have one meaning in their file, and each import is used."""
+        for path in files():
+            tree = ast.parse(path.read_text())
+            imported = {alias.name for node in tree.body if isinstance(node, ast.ImportFrom) for alias in node.names}
+            classes = {node.name for node in tree.body if isinstance(node, ast.ClassDef)}
+            names = [node for node in ast.walk(tree) if isinstance(node, ast.Name)]
+            assigned = {node.id for node in names if isinstance(node.ctx, ast.Store)}
+            assigned |= {node.arg for node in ast.walk(tree) if isinstance(node, ast.arg)}
+            self.assertEqual(assigned & (imported | classes), set(), path)
+            self.assertEqual(imported - {node.id for node in names}, set(), path)
+            self.assertEqual(assigned & set(dir(builtins)), set(), path)
+
+    def test_what_is_not_used(self):
+        """No lambdas, generator expressions, augmented assignments and stars over calls."""
+        for path in files():
+            for node in ast.walk(ast.parse(path.read_text())):
+                self.assertNotIsInstance(node, (ast.Lambda, ast.GeneratorExp, ast.AugAssign, ast.Global, ast.With), path)
+                if isinstance(node, ast.Call):
+                    for given in node.args:
+                        if isinstance(given, ast.Starred):
+                            self.assertIsInstance(given.value, (ast.Name, ast.Attribute), path)
 
     def test_lengths(self):
         """Where something has an index or is iterated over, no length is that of a range."""
