@@ -318,6 +318,14 @@ class Longer(unittest.TestCase):
         broken = longer.longer(1)
         self.assertEqual([broken.nexts, broken.lines], [(), (FIRST, ("t", ((0, 0), (1, None))))])
 
+    def test_behind_a_called_walk_with_a_fault(self):
+        told = program("def t()", "call s()", "skip", "return", "def s(): a own", "touch a look", "return")
+        walk = Walk.begin(told, "t").longer(0, Walk(told, (("s", ((0, None), (1, None))),)))
+        for index in (1, 2):
+            self.assertEqual([walk.is_run, walk.faults], [False, ()])
+            walk = walk.longer(index)
+        self.assertEqual([walk.is_run, walk.faults, walk.outcome], [False, (), ("return",)])
+
     def test_lines_that_are_not_needed_or_alike(self):
         walk = Walk(CALLING, (OWNED, FIRST, SHORT, FIRST, ("t", ((0, 1), (1, 3)))))
         longer = walk.longer(2, Walk(CALLING, (SHORT, FIRST, SHORT)))
